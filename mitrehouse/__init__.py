@@ -1,0 +1,1 @@
+"""Mitrehouse: parts drawn by constraints, with exact fractions."""
