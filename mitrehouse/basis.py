@@ -55,7 +55,7 @@ class Basis:
         for lead, factor in row[0]:
             if lead in self.lines:
                 line.blend(opposite(factor), self.lines[lead])
-        if not line.terms and self.clash is not None:
+        if self.clash is not None:
             line.blend(opposite(line.constant), self.clash)
         return line
 

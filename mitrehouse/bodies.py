@@ -1,12 +1,11 @@
 """Bodies: full boxes between cuts along three axes, with labels at their sides."""
 
 from mitrehouse.errors import NotRight, NotThere
-from mitrehouse.grids import (common_cuts, inside_out, labelled, linked_groups, neighbours, next_axes, placed, refined,
-                              whole_cuts, without_needless)
+from mitrehouse.grids import (NO_LABELS, common_cuts, inside_out, labelled, linked_groups, neighbours, next_axes,
+                              placed, refined, whole_cuts, without_needless)
 from mitrehouse.ratios import is_less, is_ratio, is_whole, opposite, plus, ratio, total
 
 EMPTY = ((), (), (), ())
-BLANK = ("", "")
 
 
 def thin(xs, ys, zs, cells):
@@ -206,10 +205,9 @@ def common(body, other):
 
 
 def unlabelled(body):
-    """Returns the body with the same full places and the same label everywhere."""
+    """Returns the fewest cuts, and the cells without labels, that have the places of a body full."""
     xs, ys, zs, cells = body
-    return thin(xs, ys, zs, {place: tuple([None if label is None else BLANK for label in labels])
-                             for place, labels in cells})
+    return thin(xs, ys, zs, {place: NO_LABELS for place, _ in cells})
 
 
 def same_places(body, other):

@@ -176,9 +176,7 @@ def area(places, rings):
 
 def is_between(at, one, other):
     """Returns True if a ratio lies from one of two ratios to the other one, both included."""
-    if is_less(at, one):
-        return not is_less(at, other)
-    return at == one or not is_less(other, at)
+    return at in (one, other) or is_less(at, one) != is_less(at, other)
 
 
 def is_on(places, edge, place):

@@ -19,7 +19,7 @@ def is_whole(value):
 def ratio(above, below=1):
     """Returns the ratio of two integers."""
     if below == 0:
-        raise NotNumber("there is no ratio to 0")
+        raise NotNumber("nothing is divided by 0")
     common = gcd(above, below)
     if below < 0:
         common = -common
@@ -55,8 +55,6 @@ def times(one, other):
 
 def over(one, other):
     """Returns the quotient of two ratios."""
-    if other[0] == 0:
-        raise NotNumber("nothing is divided by 0")
     return ratio(one[0] * other[1], one[1] * other[0])
 
 

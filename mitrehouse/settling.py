@@ -77,7 +77,7 @@ def told_for(sketch, numbers, solved):
     if solved[0] == "one":
         return with_one_shape(shape, spans)
     ways = [shape_from(sketch, direction) for direction in solved[2]]
-    if spans and len(ways) == 1:
+    if len(ways) == 1:
         return on_line(shape, ways[0], spans)
     return ("loose" if spans else "free", shape, ways)
 

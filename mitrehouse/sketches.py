@@ -48,7 +48,7 @@ def is_constraint(value, points):
     if len(value) != 1 + many + lengths + ratios:
         return False
     ends = value[1:1 + many]
-    if not all(is_name(point) and point in points for point in ends) or not are_apart(ends):
+    if not all(point in points for point in ends) or not are_apart(ends):
         return False
     rest = value[1 + many:]
     return all(is_length(part) if lengths else is_ratio(part) for part in rest)

@@ -32,12 +32,12 @@ def unit_cells(body):
     return found
 
 
-def random_body(chance, name, size=3):
-    """Returns a body of unit boxes whose facets have one of two labels for each direction."""
+def random_body(chance, name, size=3, words="ab"):
+    """Returns a body of boxes of some sizes whose facets have one of a few labels for each direction."""
     places = [place for place in product(range(size), repeat=3) if chance.random() < 0.5]
-    cells = labelled_cells(places, lambda place, d: (name, "s" + str(d) + chance.choice("ab")))
-    cuts = tuple(ratio(at) for at in range(size + 1))
-    return thin(cuts, cuts, cuts, cells)
+    cells = labelled_cells(places, lambda place, d: (name, "s" + str(d) + chance.choice(words)))
+    cuts = [tuple(ratio(at) for at in sorted(chance.sample(range(6), size + 1))) for _ in range(3)]
+    return thin(*cuts, cells)
 
 
 def layer(body, axis, at):
@@ -66,15 +66,18 @@ class Thin(unittest.TestCase):
         self.assertEqual(cells, before)
 
     def test_a_cut_between_labels_stays(self):
-        cuts = (ratio(0), ratio(1), ratio(2))
-        for changed in (2, 3, 4, 5):
-            cells = labelled_cells([(0, 0, 0), (1, 0, 0)], lambda place, d: label_of("f", d))
-            labels = list(cells[1, 0, 0])
-            labels[changed] = ("g", "other")
-            cells[1, 0, 0] = tuple(labels)
-            found = thin(cuts, UNIT, UNIT, cells)
-            self.assertEqual(found, (cuts, UNIT, UNIT, tuple(sorted(cells.items()))))
-            self.assertTrue(is_body(found))
+        for axis in range(3):
+            cuts = [UNIT] * 3
+            cuts[axis] = (ratio(0), ratio(1), ratio(2))
+            end = tuple(1 if k == axis else 0 for k in range(3))
+            for changed in range(6):
+                cells = labelled_cells([(0, 0, 0), end], lambda place, d: label_of("f", d))
+                if changed // 2 == axis:
+                    continue
+                cells[end] = cells[end][:changed] + (("g", "other"),) + cells[end][changed + 1:]
+                found = thin(*cuts, cells)
+                self.assertEqual(found, (*cuts, tuple(sorted(cells.items()))))
+                self.assertTrue(is_body(found))
 
     def test_labels_of_the_own_axis_keep_no_cut(self):
         cuts = (ratio(0), ratio(1), ratio(2))
@@ -101,7 +104,7 @@ class Thin(unittest.TestCase):
             found = random_body(chance, "f")
             self.assertTrue(is_slowly_thin(found))
             self.assertTrue(is_body(found))
-            finer = [tuple(ratio(at) for at in range(-1, 5)) for _ in range(3)]
+            finer = [tuple(ratio(at) for at in range(-1, 8)) for _ in range(3)]
             moved_cells = {tuple(one + 1 for one in place): labels for place, labels in unit_cells(found).items()}
             self.assertEqual(thin(*finer, moved_cells), found)
 
@@ -117,6 +120,7 @@ class IsBody(unittest.TestCase):
     def test_other_values(self):
         for value in (None, 0, True, "", (), [], {}, ((), (), ()), ((), (), (), (), ()), [(), (), (), ()],
                       ([], (), (), ()), ((), (), (), []), (UNIT, UNIT, UNIT, ()), (UNIT, (), (), ()),
+                      (UNIT, UNIT, UNIT, None), (UNIT, UNIT, UNIT, 7),
                       ((ratio(0),), (), (), ()), (None, None, None, None), (1, 2, 3, 4)):
             self.assertIs(is_body(value), False, value)
 
@@ -136,6 +140,10 @@ class IsBody(unittest.TestCase):
                         (ratio(-1),) + xs, xs[:1] + (ratio(1, 3),) + xs[1:], (0, 1, 2), ((0, 1), (2, 2), (2, 1)),
                         ((0, 1), (True, 1), (2, 1)), ((1, 2), (1, 3), (2, 1))):
             self.assertIs(is_body((changed, ys, zs, cells)), False, changed)
+        for changed in ((ys[1], ys[0], ys[2]), ys + (ratio(9),), None, list(ys), (0, 1, 2), (ys[0], ys[0], ys[1])):
+            self.assertIs(is_body((xs, changed, zs, cells)), False, changed)
+        for changed in ((zs[1], zs[0], zs[2]), zs + (ratio(9),), None, list(zs), (0, 1, 2), (zs[0], zs[0], zs[1])):
+            self.assertIs(is_body((xs, ys, changed, cells)), False, changed)
         # Ascending as tuples is not ascending by worth: 1/2 is above 1/3.
         third, half = ratio(1, 3), ratio(1, 2)
         self.assertIs(is_body(((third, half), UNIT, UNIT, BOX[3])), True)
@@ -143,6 +151,9 @@ class IsBody(unittest.TestCase):
 
     def test_cells(self):
         xs, ys, zs, cells = self.body
+        (place, labels), rest = cells[0], cells[1:]
+        for changed in (((place, labels, 0),) + rest, ((place,),) + rest, (place + (labels,),) + rest):
+            self.assertIs(is_body((xs, ys, zs, changed)), False)
         for changed in (cells[::-1], cells[:-1], cells[1:], cells + cells[-1:], cells[:1] + cells,
                         (cells[1], cells[0]) + cells[2:], cells + (None,), cells + (((1, 1),),)):
             self.assertIs(is_body((xs, ys, zs, changed)), False)
@@ -329,6 +340,18 @@ class Large(unittest.TestCase):
             with self.assertRaises(TooLarge):
                 deed(more, long)
 
+    def test_20001_boxes(self):
+        # 3 * 59 * 113 boxes; without one of the boxes along the x axis there are 2 * 59 * 113.
+        flat = grid_body([(0, j, 0) for j in range(0, 59, 2)] + [(0, 0, k) for k in range(0, 113, 2)], "f")
+        long = grid_body([(i, 0, 0) for i in range(0, 3, 2)], "g")
+        short = block((0, 0, 0), (2, 1, 1), "g")
+        self.assertEqual([len(one) for one in flat[:3]], [2, 60, 114])
+        for body, other in ((flat, long), (long, flat)):
+            for deed in (joined, cut, kept, common):
+                with self.assertRaises(TooLarge):
+                    deed(body, other)
+        self.assertEqual(volume(joined(flat, short)), ratio(30 + 57 - 1 + 1))
+
     def test_a_body_that_is_too_large_by_itself(self):
         cuts = [tuple(ratio(at) for at in range(many + 1)) for many in (21, 40, 25)]
         places = [(i, j, k) for i in range(21) for j in range(40) for k in range(25) if (i + j + k) % 2 == 0]
@@ -351,7 +374,7 @@ class Measures(unittest.TestCase):
     def test_random_bodies(self):
         chance = random.Random(54)
         for _ in range(30):
-            body = random_body(chance, "f")
+            body = random_body(chance, "f", words=chance.choice(["a", "ab"]))
             cells = unit_cells(body)
             self.assertEqual(volume(body), ratio(len(cells)))
             self.assertEqual(surface(body), ratio(sum(beside(place, d) not in cells

@@ -244,7 +244,7 @@ class Errors(unittest.TestCase):
 
     def test_put(self):
         more = feature("more")
-        for at in (-1, 5, 100):
+        for at in (-1, 5, 100, True, None):
             self.refused(NotThere, self.drawing.put, at, more)
         # Four features, but just three others.
         self.refused(NotThere, self.drawing.put, 4, BASE)

@@ -146,12 +146,12 @@ class Faces(unittest.TestCase):
 class Names(unittest.TestCase):
     def test_is_face_name(self):
         for value in ((("f", "a"), ()), (("", ""), ()), (("f", "a"), (("f", "a"), ("f", "b"))),
-                      (("f", "a"), (("f", "a"), ("g", "")))):
+                      (("f", "a"), (("f", "a"), ("g", ""))), (("f", "a"), (("f", "a"), ("f", "b"), ("g", "")))):
             self.assertIs(is_face_name(value), True)
         for value in (None, 1, "f", (), (("f", "a"),), (("f", "a"), [], ()), (("f", "a"), []), [("f", "a"), ()],
                       (["f", "a"], ()), (("f",), ()), (("f", 1), ()), (("f", "a", "b"), ()), ("fa", ()),
                       (("f", "a"), (("f", "b"), ("f", "a"))), (("f", "a"), (("f", "a"), ("f", "a"))),
-                      (("f", "a"), ("f", "b")), (("f", "a"), (["f", "b"],)), (("f", "a"), None)):
+                      (("f", "a"), (("f", "a"), ("g", ""), ("f", "b"))), (("f", "a"), ("f", "b")), (("f", "a"), (["f", "b"],)), (("f", "a"), None)):
             self.assertIs(is_face_name(value), False, value)
 
     def test_a_name_that_stands(self):
@@ -264,6 +264,10 @@ class Papers(unittest.TestCase):
         self.assertIs(accepts_name(self.body, 0, self.name, self.paper), False)
         self.assertIs(accepts_name(self.body, self.index, (s(5), (s(1),)), self.paper), False)
         self.assertIs(accepts_name(self.body, self.index, (s(4), ()), self.paper), False)
+        # The paper would do, but the face does not bear the name.
+        self.assertIs(accepts_name(self.body, self.index, (s(4), self.name[1]), self.paper), False)
+        self.assertIs(accepts_name(self.body, self.index, (s(5), self.name[1] + (("z", ""),)), self.paper), False)
+        self.assertIs(accepts_name(self.body, self.index, (s(5), (s(2, "v"), s(0, "w"))), self.paper), True)
 
     def test_a_face_that_has_a_twin_has_no_paper(self):
         marks = marks_of(self.body)

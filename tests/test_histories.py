@@ -44,7 +44,7 @@ class Features(unittest.TestCase):
             "name": ("Base", "", "abcdefghijklm", 1, None),
             "deed": ("joined", "", None, 1, ["join"], ("join",)),
             "place": (("base", 3, ZERO), ("base", -1, ZERO), ("base", True, ZERO), ("base", 2), ("base", 2, ZERO, 0),
-                      ("base", "2", ZERO), ("base", 2, (0, 1)), ("on", ("base", "high")), ("on",), ("off", 2, ZERO),
+                      ("base", "2", ZERO), ("base", 2, (0, 1)), ("on", ("base", "high")), ("on",), ("off", 2, ZERO), ("off", (("base", "high"), ())), (2, (("base", "high"), ())),
                       ("on", (("base", "high"), ()), 0), ("on", (("base", "high"), [])), ["base", 2, ZERO], (), None,
                       ("on", (("b", "h"), (("z", ""), ("a", "")))), ("base", 2.0, ZERO)),
             "sketch": (None, (), (("b", "a"), ()), [BASE[3][0], BASE[3][1]], (BASE[3][0], list(BASE[3][1]))),

@@ -177,7 +177,7 @@ class Exchanging(unittest.TestCase):
         with self.assertRaises(Stops) as caught:
             can_exchange(history(HOLE, BASE), 9)
         self.assertEqual((caught.exception.name, caught.exception.reason), ("hole", "face"))
-        for at in (-1, 1, 2, 99):
+        for at in (-1, 1, 2, 99, False):
             with self.assertRaises(NotThere):
                 can_exchange(history(BASE, HOLE), at)
         with self.assertRaises(NotThere):

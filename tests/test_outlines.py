@@ -104,6 +104,8 @@ class Faults(unittest.TestCase):
                    ("meet", "a", "b", "b", "c"))
         self.check({"a": (2, 0), "b": (4, 0), "c": (4, 3), "d": (5, 3), "e": (5, 0)}, ["abcde"],
                    ("meet", "a", "b", "e", "a"))
+        self.check({"a": (0, 0), "b": (0, 4), "c": (0, 2), "d": (3, 2), "e": (3, 0)}, ["abcde"],
+                   ("meet", "a", "b", "b", "c"))
 
     def test_neighbours_that_go_straight_on(self):
         self.check({**SQUARE, "e": (2, 0)}, ["aebcd"], None)
@@ -224,6 +226,12 @@ class Regions(unittest.TestCase):
                              (-1, 4, False), (-1, 1, False), (0, 0, False), (4, 4, False), (2, 0, False), (4, 1, False),
                              (2, 1, False), (1, 2, False), (2, Fraction(3, 2), False), (1, 1, False), (0, 4, False)):
             self.assertIs(is_inside(places, told, (as_ratio(Fraction(x)), as_ratio(Fraction(y)))), wanted, (x, y))
+
+    def test_inside_of_a_ring_with_a_corner_on_a_straight_line(self):
+        places, told = placed({**SQUARE, "e": (2, 0)}), rings("aebcd")
+        for x, y, wanted in ((1, 1, True), (3, 1, True), (-1, 1, False), (5, 1, False), (1, 5, False), (1, -1, False),
+                             (2, 0, False), (1, 0, False), (3, 0, False), (-1, 0, False), (0, 4, False)):
+            self.assertIs(is_inside(places, told, (ratio(x), ratio(y))), wanted, (x, y))
 
     def test_cells_are_those_whose_middles_are_inside(self):
         for places, told in self.outlines():

@@ -222,6 +222,9 @@ class Papers(unittest.TestCase):
         self.assertIs(accepts(sketch, {}, ("none", "rows", twice + [NOUGHT]), None), False)
         self.assertIs(accepts(sketch, {}, ("none", "rows", []), None), False)
         self.assertIs(accepts(sketch, {}, ("none", "rows", 2), None), False)
+        self.assertIs(accepts(sketch, {}, ("none", "rows", [{}] * len(twice)), None), False)
+        self.assertIs(accepts(sketch, {}, ("none", "rows"), None), False)
+        self.assertIs(accepts(sketch, {}, ("none", "rows", twice, twice), None), False)
         self.assertIs(accepts(of("a", FIX), {}, ("none", "rows", [(1, 1), (1, 1)]), None), False)
 
     def test_by_random_sketches(self):
@@ -373,8 +376,12 @@ class Held(unittest.TestCase):
         # Spans are left out.
         self.assertEqual(held_points(CASES["some"], {}), ["a", "b"])
         self.assertEqual(held_points(CASES["span"], {}), ["a", "b"])
-        # c moves along both axes at once.
+        # b moves along one of both axes alone.
+        self.assertEqual(held_points(of("ab", FIX, LEVEL), {}), ["a"])
+        self.assertEqual(held_points(of("ab", FIX, ("plumb", "a", "b")), {}), ["a"])
         self.assertEqual(held_points(of("abc", FIX, ("wide", "a", "b", "a", "c", (1, 1))), {}), ["a"])
+        # b is not told by itself, and neither is a; but the gap between them is.
+        self.assertEqual(held_points(of("ab", ("across", "a", "b", ONE), ("up", "a", "b", ONE)), {}), [])
 
     def test_clash(self):
         with self.assertRaises(NotThere):

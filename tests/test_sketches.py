@@ -30,7 +30,8 @@ class Sketches(unittest.TestCase):
             self.assertIs(is_sketch(of(constraint + (ONE,))), False, constraint)
             self.assertIs(is_sketch(of(list(constraint))), False, constraint)
             self.assertIs(is_sketch(of(("none",) + constraint[1:])), False, constraint)
-            self.assertIs(is_sketch(of((7,) + constraint[1:])), False, constraint)
+            for word in (7, None, [constraint[0]], {}, (constraint[0],)):
+                self.assertIs(is_sketch(of((word,) + constraint[1:])), False, constraint)
 
     def test_points_that_are_not_the_sketchs(self):
         for constraint in EACH:
