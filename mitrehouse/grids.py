@@ -1,10 +1,27 @@
 """Cells between cuts: their neighbours, their layers, and finer cuts through several bodies."""
 
-from mitrehouse.errors import TooLarge
-from mitrehouse.ratios import ascending, common_below
+from mitrehouse.errors import NotThere, TooLarge
+from mitrehouse.ratios import ascending, common_below, is_whole
 
 MOST_BOXES = 20000
 NO_LABELS = (None, None, None, None, None, None)
+
+
+def check_axis(axis):
+    """Raises NotThere if there is no such axis."""
+    if not is_whole(axis) or not 0 <= axis <= 2:
+        raise NotThere("there is no such axis")
+
+
+def is_direction(value):
+    """Returns True if any value is a direction."""
+    return is_whole(value) and 0 <= value <= 5
+
+
+def check_direction(direction):
+    """Raises NotThere if there is no such direction."""
+    if not is_direction(direction):
+        raise NotThere("there is no such direction")
 
 
 def next_axes(axis):
@@ -23,6 +40,27 @@ def placed(axis, at, u, v):
     if axis == 0:
         return (at, u, v)
     return (v, at, u) if axis == 1 else (u, v, at)
+
+
+def index_runs(indexes):
+    """Returns the list of the runs of neighbours in an ascending list of indexes: the first one, and one behind."""
+    found = []
+    for index in indexes:
+        if found and found[-1][1] == index:
+            found[-1] = (found[-1][0], index + 1)
+        else:
+            found.append((index, index + 1))
+    return found
+
+
+def columns_of(cells, axis):
+    """Returns the dict from the columns along an axis to the ascending lists of the indexes of its cells."""
+    u, v = next_axes(axis)
+    found = {}
+    for place in sorted(cells):
+        column = found.setdefault((place[u], place[v]), [])
+        column.append(place[axis])
+    return found
 
 
 def whole_cuts(cuts):

@@ -119,16 +119,28 @@ def accepts(sketch, numbers, told, paper):
     return reduced is not None and told == told_for(sketch, numbers, solution(reduced, unknowns_of(sketch)))
 
 
-def depends(sketch, numbers, name):
-    """Returns the dict from points to pairs, by how much the coordinates grow with the number."""
-    if settle(sketch, numbers)[0] != "one" or len(linear_indexes(sketch)) < len(sketch[1]):
+def only_shape(sketch, numbers):
+    """Returns the one shape of a sketch without spans; raises NotThere if there is none."""
+    told = settle(sketch, numbers)
+    if told[0] != "one" or len(linear_indexes(sketch)) < len(sketch[1]):
         raise NotThere("the sketch has a span, or not just one shape")
+    return told[1]
+
+
+def growths(sketch, name):
+    """Returns the dict from points to pairs, by how much the coordinates of the one shape grow with the number."""
     # The growths fulfil the same rows, with the growths of the lengths as their constants.
     groups = grouped_rows(sketch, lambda length: growth(length, name))
     solved = solve([row for rows in groups for row in rows], unknowns_of(sketch))
     if solved[0] == "none":
         raise NotThere("the sketch does not depend on the number")
     return shape_from(sketch, solved[1])
+
+
+def depends(sketch, numbers, name):
+    """Returns the dict from points to pairs, by how much the coordinates grow with the number."""
+    only_shape(sketch, numbers)
+    return growths(sketch, name)
 
 
 def needless_ones(sketch, numbers):

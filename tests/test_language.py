@@ -38,6 +38,18 @@ INTERFACE = {
                   "built(history)", "stop_of(history)"],
     "lineage": ["fate(body, index, other)", "fates(body, other)", "same_faces(body, other)",
                 "followers(history, name)", "can_exchange(history, at)", "needless_features(history)"],
+    "ranges": ["breaks(sketch, numbers, name, rings)", "stretches(sketch, numbers, name, rings)",
+               "reach(sketch, numbers, leeways, p, q, axis)", "shares(sketch, numbers, leeways, p, q, axis)"],
+    "versions": ["changes(history, other)", "changed(history, some)", "merged(base, left, right)"],
+    "assemblies": ["is_assembly(value)", "fault_of(assembly)", "assembly_rows(assembly)", "placed(assembly)",
+                   "put_together(assembly)", "accepts_placing(assembly, told, paper)", "placing_paper(assembly)",
+                   "overlaps(bodies)", "contacts(bodies)", "contact(body, other)"],
+    "apart": ["is_blocked(body, other, direction)", "blockers(bodies, name, direction)",
+              "room(bodies, name, direction)", "taken_apart(bodies)", "accepts_order(bodies, steps)",
+              "accepts_held(bodies, rows)"],
+    "measures": ["centre(body)", "section(body, axis, at)", "flat_area(flat)", "thin_flat(us, vs, cells)",
+                 "thinnest(body, axis)", "narrowest(body, axis)", "runs(body, axis)", "same_form(body, other)"],
+    "views": ["view(body, direction)", "view_lines(seen)", "line_length(lines)", "seen_parts(body)"],
 }
 CLASSES = {
     "errors": {"MitreError": [], "NotNumber": [], "NotThere": [], "NotRight": [], "TooLarge": [],
