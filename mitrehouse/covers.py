@@ -1,4 +1,6 @@
-"""Least choices of masks, integers whose bits tell what each covers."""
+"""Least choices: of masks, integers whose bits tell what each covers, and of indexes that are enough together."""
+
+from itertools import combinations
 
 
 def unions(masks):
@@ -33,3 +35,28 @@ def least_cover(masks, whole):
         if found is not None:
             return found
     return None
+
+
+def bits_of(chosen):
+    """Returns the integer whose bits are the indexes of a tuple."""
+    return sum([1 << index for index in chosen])
+
+
+def least_choices(many, is_enough):
+    """Returns the ascending tuples of indexes below many that are enough, and of which no part is.
+
+    Shorter ones come first, then ascending. What has a part that is enough has to be enough, too.
+    """
+    found, known = [], []
+    for size in range(many + 1):
+        tried = 0
+        for chosen in combinations(range(many), size):
+            bits = bits_of(chosen)
+            if not any((bits & part) == part for part in known):
+                tried += 1
+                if is_enough(chosen):
+                    found.append(chosen)
+                    known.append(bits)
+        if tried == 0:
+            break
+    return found

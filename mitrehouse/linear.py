@@ -1,8 +1,7 @@
 """Linear rows: sums of unknowns that are worth a constant, and what follows from them."""
 
-from itertools import combinations
-
 from mitrehouse.basis import Basis, basis_of, mix, plain_basis
+from mitrehouse.covers import least_choices
 from mitrehouse.errors import NotRight, NotThere, TooLarge
 from mitrehouse.ratios import ONE, ZERO, opposite, plus, times, total
 
@@ -196,17 +195,7 @@ def least_clashes(groups):
         return []
     # Factors that take away the leads take away all unknowns: so the others need not be looked at.
     short = shortened(groups, basis.lines)
-    found = []
-    for size in range(1, len(groups) + 1):
-        for chosen in combinations(range(len(groups)), size):
-            if not any(is_part(known, chosen) for known in found) and is_conflict(short, chosen):
-                found.append(chosen)
-    return found
-
-
-def is_part(some, chosen):
-    """Returns True if all members of a tuple are among those of another one."""
-    return all(index in chosen for index in some)
+    return least_choices(len(groups), lambda chosen: is_conflict(short, chosen))
 
 
 def least_conflicts(rows):

@@ -50,6 +50,17 @@ INTERFACE = {
     "measures": ["centre(body)", "section(body, axis, at)", "flat_area(flat)", "thin_flat(us, vs, cells)",
                  "thinnest(body, axis)", "narrowest(body, axis)", "runs(body, axis)", "same_form(body, other)"],
     "views": ["view(body, direction)", "view_lines(seen)", "line_length(lines)", "seen_parts(body)"],
+    "making": ["is_reached(body, directions)", "left_over(body, directions)", "least_directions(body)",
+               "can_be_drawn(body, axis)", "hanging(body)"],
+    "sheets": ["is_sheet(value)", "sheet_rows(sheet)", "settled_sheet(sheet)", "hangs_on(sheet, name)",
+               "plain_names(sheet)"],
+    "drags": ["dragged(sketch, numbers, shape, wishes)", "drag_paper(sketch, numbers, shape, wishes)",
+              "accepts_drag(sketch, numbers, shape, wishes, drag, paper)", "moved_far(shape, other)"],
+    "fixes": ["are_enough(sketch, numbers, points)", "least_fixes(sketch, numbers)",
+              "met_by(sketch, numbers, name, gap, wish)"],
+    "strokes": ["strokes(bodies, ways)", "are_clear(bodies, ways, time)", "stroke_at(bodies, ways, time)"],
+    "standing": ["foot(body)", "hull(corners)", "stands(body)", "standing_paper(body)",
+                 "accepts_standing(body, paper)"],
 }
 CLASSES = {
     "errors": {"MitreError": [], "NotNumber": [], "NotThere": [], "NotRight": [], "TooLarge": [],
