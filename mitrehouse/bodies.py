@@ -160,7 +160,7 @@ def pieces(body):
     """Returns the list of the bodies of the pieces, in the order of their least places."""
     cells = cells_of(body)
     xs, ys, zs = body[:3]
-    return [thin(xs, ys, zs, {place: cells[place] for place in group}) for group in linked_groups(cells)]
+    return [thin(xs, ys, zs, {place: cells[place] for place in group}) for group in linked_groups(cells, neighbours)]
 
 
 def moved(body, by):

@@ -3,8 +3,11 @@
 from mitrehouse.bodies import facets_area, is_label
 from mitrehouse.covers import least_cover
 from mitrehouse.errors import NotRight, NotThere
-from mitrehouse.grids import linked_groups, next_axes, placed
+from mitrehouse.grids import BESIDE, linked_groups, next_axes
 from mitrehouse.ratios import is_whole
+
+MOST_KEPT = 8
+SHELF = None
 
 
 def facets_by_label(body, direction):
@@ -20,33 +23,40 @@ def facets_by_label(body, direction):
 def faces_looking(body, direction):
     """Returns the list of the faces in a direction, by their places."""
     # Of two cells one behind the other in the direction just one has a facet there, so neighbours lie beside.
+    near = BESIDE[direction // 2]
     found = [(label, direction, tuple(sorted(group)))
-             for label, places in facets_by_label(body, direction).items() for group in linked_groups(places)]
+             for label, places in facets_by_label(body, direction).items() for group in linked_groups(places, near)]
     return sorted(found, key=lambda face: face[2])
 
 
-def faces(body):
-    """Returns the list of the faces of a body."""
+def all_faces(body):
+    """Returns the list of the faces of a body, made anew."""
     return [face for direction in range(6) for face in faces_looking(body, direction)]
 
 
 def facet_edges(place, direction):
     """Returns the four edges of a facet, each told by its axis and its lower end among the cuts."""
-    axis = direction // 2
-    u, v = next_axes(axis)
-    at = place[axis] + direction % 2
-    low, beside, above = [placed(axis, at, place[u] + one, place[v] + other) for one, other in ((0, 0), (1, 0), (0, 1))]
-    return [(u, low), (u, above), (v, low), (v, beside)]
+    i, j, k = place
+    if direction <= 1:
+        at = i + direction
+        return [(1, at, j, k), (1, at, j, k + 1), (2, at, j, k), (2, at, j + 1, k)]
+    if direction <= 3:
+        at = j + direction - 2
+        return [(0, i, at, k), (0, i, at, k + 1), (2, i, at, k), (2, i + 1, at, k)]
+    at = k + direction - 4
+    return [(0, i, j, at), (0, i, j + 1, at), (1, i, j, at), (1, i + 1, j, at)]
 
 
 def faces_at_edges(found):
-    """Returns the dict from the edges of facets to the lists of the indexes of the faces there."""
+    """Returns the dict from the edges of facets to the ascending lists of the indexes of the faces there."""
     ends = {}
     for index, (_, direction, places) in enumerate(found):
         for place in places:
             for edge in facet_edges(place, direction):
-                met = ends.setdefault(edge, [])
-                met.append(index)
+                if edge in ends:
+                    ends[edge].append(index)
+                else:
+                    ends[edge] = [index]
     return ends
 
 
@@ -54,16 +64,13 @@ def marks_among(found):
     """Returns the list of the marks of all faces of a body."""
     marks = [{} for _ in found]
     for indexes in faces_at_edges(found).values():
-        for index in indexes:
-            for other in indexes:
-                if other != index:
-                    marks[index][found[other][0]] = True
+        # Most edges lie within one face, so that the first index is the last one, too.
+        if indexes[0] != indexes[-1]:
+            for index in indexes:
+                for other in indexes:
+                    if other != index:
+                        marks[index][found[other][0]] = True
     return [tuple(sorted(labels)) for labels in marks]
-
-
-def marks_of(body):
-    """Returns the list of the marks of the faces, in their order."""
-    return marks_among(faces(body))
 
 
 def face_area(body, face):
@@ -93,68 +100,140 @@ def is_face_name(value):
     return all(marks[k] < marks[k + 1] for k in range(len(marks) - 1))
 
 
-def has_all(marks, some):
-    """Returns True if all of some marks are among the marks."""
-    return all(mark in marks for mark in some)
+def bits_at(bits):
+    """Returns the ascending list of the bits of an integer."""
+    return [bit for bit in range(bits.bit_length()) if bits >> bit & 1]
 
 
 class Roster:
-    """The faces of a body with their marks, and the indexes of the faces with each label."""
+    """The faces of a body with their marks and names, and the indexes of the faces with each label.
+
+    Marks and names are made when they are asked for first, and kept then.
+    """
 
     def __init__(self, body):
-        self.faces = faces(body)
-        self.marks = marks_among(self.faces)
+        self.solid = body
+        self.faces = all_faces(body)
         self.groups = {}
         self.bits = {}
+        self.names = {}
+        self.known_marks = None
         for index, face in enumerate(self.faces):
             group = self.groups.setdefault(face[0], [])
             group.append(index)
+
+    def marks(self):
+        """Returns the list of the marks of the faces; who is given it does not change it."""
+        if self.known_marks is None:
+            self.known_marks = marks_among(self.faces)
+        return self.known_marks
 
     def check(self, index):
         """Raises NotThere if there is no face with the index."""
         if not is_whole(index) or not 0 <= index < len(self.faces):
             raise NotThere("there is no face with this index")
 
+    def mark_bits(self, label):
+        """Returns the dict from marks to integers, in which the faces with the label that have them are bits."""
+        if label not in self.bits:
+            found = {}
+            marks = self.marks()
+            for bit, index in enumerate(self.groups[label]):
+                for mark in marks[index]:
+                    found[mark] = found.get(mark, 0) | 1 << bit
+            self.bits[label] = found
+        return self.bits[label]
+
+    def bearing_bits(self, label, some):
+        """Returns the integer whose bits are those faces with a label, at least one, that have all of some marks."""
+        found = (1 << len(self.groups[label])) - 1
+        if some:
+            bits = self.mark_bits(label)
+            for mark in some:
+                found = found & bits.get(mark, 0)
+        return found
+
     def bearing(self, name):
         """Returns the ascending list of the indexes of the faces that bear a name."""
-        return [index for index in self.groups.get(name[0], []) if has_all(self.marks[index], name[1])]
+        label, some = name
+        if label not in self.groups:
+            return []
+        return [self.groups[label][bit] for bit in bits_at(self.bearing_bits(label, some))]
 
     def others_like(self, index):
         """Returns the ascending list of the indexes of the other faces with the label of a face."""
         return [other for other in self.groups[self.faces[index][0]] if other != index]
 
-    def mark_bits(self, label):
-        """Returns the dict from marks to integers, in which the faces with the label that have them are bits."""
-        if label not in self.bits:
-            found = {}
-            for bit, index in enumerate(self.groups[label]):
-                for mark in self.marks[index]:
-                    found[mark] = found.get(mark, 0) | 1 << bit
-            self.bits[label] = found
-        return self.bits[label]
+    def twin(self, index):
+        """Returns the least index of a twin of a face, or None."""
+        twins = [other for other in self.bearing((self.faces[index][0], self.marks()[index])) if other != index]
+        return twins[0] if twins else None
 
     def least_name(self, index):
         """Returns the least name of a face, or None if it has a twin."""
-        label, marks = self.faces[index][0], self.marks[index]
-        group, bits = self.groups[label], self.mark_bits(label)
+        if index not in self.names:
+            self.names[index] = self.name_sought(index)
+        return self.names[index]
+
+    def name_sought(self, index):
+        """Returns the least name of a face, or None, by the least choice of its marks."""
+        label, marks = self.faces[index][0], self.marks()[index]
+        group = self.groups[label]
+        if len(group) == 1:
+            return (label, ())
+        bits = self.mark_bits(label)
         everyone = (1 << len(group)) - 1
         # A name means the face if each other one with the label lacks one of the marks that are chosen.
         cover = least_cover([everyone - bits[mark] for mark in marks], everyone - (1 << group.index(index)))
-        if cover is None:
-            return None
-        return (label, tuple([marks[k] for k in cover]))
+        return None if cover is None else (label, tuple([marks[k] for k in cover]))
+
+
+class Shelf:
+    """The rosters of the bodies that were asked for last, the latest one first."""
+
+    def __init__(self):
+        self.rosters = []
+
+    def roster(self, body):
+        """Returns the roster of a body, made anew if it is not on the shelf."""
+        for kept in self.rosters:
+            if kept.solid == body:
+                return kept
+        found = Roster(body)
+        self.rosters = [found] + self.rosters[:MOST_KEPT - 1]
+        return found
+
+
+def roster_of(body):
+    """Returns the roster of a body."""
+    global SHELF
+    # Who asks for one face or name of a body asks for others of it, too; all of them need the same roster.
+    if SHELF is None:
+        SHELF = Shelf()
+    shelf = SHELF
+    return shelf.roster(body)
 
 
 def checked_roster(body, index):
     """Returns the roster of a body; raises NotThere if it has no face with the index."""
-    roster = Roster(body)
+    roster = roster_of(body)
     roster.check(index)
     return roster
 
 
+def faces(body):
+    """Returns the list of the faces of a body."""
+    return list(roster_of(body).faces)
+
+
+def marks_of(body):
+    """Returns the list of the marks of the faces, in their order."""
+    return list(roster_of(body).marks())
+
+
 def bearers(body, name):
     """Returns the ascending list of the indexes of the faces that bear a name."""
-    return Roster(body).bearing(name)
+    return roster_of(body).bearing(name)
 
 
 def meant(body, name):
@@ -170,11 +249,7 @@ def least_name(body, index):
 
 def twin(body, index):
     """Returns the least index of a twin of the face with the index, or None."""
-    roster = checked_roster(body, index)
-    for other in roster.others_like(index):
-        if has_all(roster.marks[other], roster.marks[index]):
-            return other
-    return None
+    return checked_roster(body, index).twin(index)
 
 
 def name_paper(body, index, name):
@@ -182,9 +257,9 @@ def name_paper(body, index, name):
     roster = checked_roster(body, index)
     if roster.bearing(name) != [index]:
         raise NotRight("the name does not mean the face")
+    marks = roster.marks()
     # Marks of a name are ascending, so the first one that is lacking is the least one.
-    return [(other, [mark for mark in name[1] if mark not in roster.marks[other]][0])
-            for other in roster.others_like(index)]
+    return [(other, [mark for mark in name[1] if mark not in marks[other]][0]) for other in roster.others_like(index)]
 
 
 def accepts_name(body, index, name, paper):
@@ -192,4 +267,5 @@ def accepts_name(body, index, name, paper):
     roster = checked_roster(body, index)
     if index not in roster.bearing(name) or [other for other, _ in paper] != roster.others_like(index):
         return False
-    return all(mark in name[1] and mark not in roster.marks[other] for other, mark in paper)
+    marks = roster.marks()
+    return all(mark in name[1] and mark not in marks[other] for other, mark in paper)

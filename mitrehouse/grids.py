@@ -163,20 +163,44 @@ def labelled(full, ours, theirs):
     return cells
 
 
-def linked_groups(places):
-    """Returns the lists of those places of a dict that lead to each other over neighbours, in the dict's order."""
+def beside_x(place):
+    """Returns the four places beside a place across the x axis."""
+    i, j, k = place
+    return [(i, j - 1, k), (i, j + 1, k), (i, j, k - 1), (i, j, k + 1)]
+
+
+def beside_y(place):
+    """Returns the four places beside a place across the y axis."""
+    i, j, k = place
+    return [(i - 1, j, k), (i + 1, j, k), (i, j, k - 1), (i, j, k + 1)]
+
+
+def beside_z(place):
+    """Returns the four places beside a place across the z axis."""
+    i, j, k = place
+    return [(i - 1, j, k), (i + 1, j, k), (i, j - 1, k), (i, j + 1, k)]
+
+
+BESIDE = (beside_x, beside_y, beside_z)
+
+
+def linked_groups(places, near):
+    """Returns the lists of those places of a dict that lead to each other over near ones, in the dict's order.
+
+    near is a function that returns the list of the places near a place.
+    """
     found = []
-    seen = {}
+    left = {place: True for place in places}
     for place in places:
-        if place not in seen:
-            seen[place] = True
+        if place in left:
+            del left[place]
             group = [place]
             # The group grows while it is gone through, by an index instead of a loop over it.
             at = 0
             while at < len(group):
-                fresh = [beyond for beyond in neighbours(group[at]) if beyond in places and beyond not in seen]
-                for beyond in fresh:
-                    seen[beyond] = True
+                fresh = [other for other in near(group[at]) if other in left]
+                for other in fresh:
+                    del left[other]
                 group.extend(fresh)
                 at += 1
             found.append(group)

@@ -2,7 +2,7 @@
 
 from mitrehouse.bodies import EMPTY, cut, joined, kept, prism
 from mitrehouse.errors import NotRight, NotThere, Stops, TooLarge, is_name
-from mitrehouse.faces import Roster, face_corner, face_plane, is_face_name
+from mitrehouse.faces import face_corner, face_plane, is_face_name, roster_of
 from mitrehouse.lengths import is_length, length_worth, numbers_in
 from mitrehouse.outlines import fault, region, side_edges
 from mitrehouse.ratios import ZERO, is_less, is_ratio, is_whole, minus, plus
@@ -96,7 +96,7 @@ def plane_of(place, numbers, body):
     """Returns the plane of a place as the tuple of its axis, h, (u, v) and side."""
     if place[0] == "base":
         return (place[1], length_worth(place[2], numbers), (ZERO, ZERO), 1)
-    roster = Roster(body)
+    roster = roster_of(body)
     indexes = roster.bearing(place[1])
     if len(indexes) != 1:
         raise NotThere("the name of the face does not stand in the body")

@@ -2,7 +2,7 @@
 
 from mitrehouse.bodies import EMPTY
 from mitrehouse.errors import NotThere, Stops
-from mitrehouse.faces import Roster, checked_roster
+from mitrehouse.faces import checked_roster, roster_of
 from mitrehouse.histories import behind, check_history, names_of, needs, stages
 from mitrehouse.ratios import is_whole
 
@@ -20,7 +20,7 @@ def fate_of(roster, index, others):
 
 def fate(body, index, other):
     """Returns the fate of the face with the index in another body."""
-    return fate_of(checked_roster(body, index), index, Roster(other))
+    return fate_of(checked_roster(body, index), index, roster_of(other))
 
 
 def roster_fates(roster, others):
@@ -30,12 +30,12 @@ def roster_fates(roster, others):
 
 def fates(body, other):
     """Returns the list of the fates of all faces of a body in another one."""
-    return roster_fates(Roster(body), Roster(other))
+    return roster_fates(roster_of(body), roster_of(other))
 
 
 def same_faces(body, other):
     """Returns the list of the pairs of indexes of faces whose least names mean each other."""
-    roster, others = Roster(body), Roster(other)
+    roster, others = roster_of(body), roster_of(other)
     there, back = roster_fates(roster, others), roster_fates(others, roster)
     return [(index, told[1]) for index, told in enumerate(there)
             if told[0] == "means" and back[told[1]] == ("means", index)]

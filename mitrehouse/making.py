@@ -27,8 +27,10 @@ def reached_places(body):
     check_full(body)
     full = cells_of(body)
     columns = [columns_of(full, axis) for axis in range(3)]
-    xs, ys, zs = [range(len(cuts) - 1) for cuts in body[:3]]
-    return {(i, j, k): reached_from((i, j, k), columns) for i in xs for j in ys for k in zs if (i, j, k) not in full}
+    xs, ys, zs = body[:3]
+    outside = [(i, j, k) for i in range(len(xs) - 1) for j in range(len(ys) - 1) for k in range(len(zs) - 1)
+               if (i, j, k) not in full]
+    return {place: reached_from(place, columns) for place in outside}
 
 
 def places_left(body, directions):

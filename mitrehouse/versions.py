@@ -115,7 +115,9 @@ def merged(base, left, right):
         return ("clash", clashing, [])
     items = merged_items(hands[0], hands[1], hands[2])
     orders = [names_of(history[1]) for history in (base, left, right)]
-    names = [name for name in {**orders[1], **orders[2]} if ("feature", name) in items]
+    # Those of left come first, in its order, and then those that it has not, in the order of right.
+    every = list(orders[1]) + [name for name in orders[2] if name not in orders[1]]
+    names = [name for name in every if ("feature", name) in items]
     order, rest = merged_order(names, ahead_of_all(names, orders[0], orders[1], orders[2]))
     if rest:
         return ("clash", [], sorted(rest))

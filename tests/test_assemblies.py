@@ -8,7 +8,7 @@ from mitrehouse.assemblies import (accepts_placing, assembly_rows, contact, cont
 from mitrehouse.bodies import EMPTY, joined, moved, thin, turned
 from mitrehouse.errors import NotRight, NotThere, TooLarge
 from mitrehouse.faces import face_plane, faces, least_name, meant
-from mitrehouse.linear import is_clash, made, solve
+from mitrehouse.linear import is_clash, made
 from mitrehouse.ratios import ratio
 from samples import as_ratio, beside, block, fraction, grid_body, label_of
 from test_bodies import random_body, unit_cells

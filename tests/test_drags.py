@@ -9,7 +9,7 @@ from mitrehouse.linear import fulfils, made, solve
 from mitrehouse.ratios import ratio
 from mitrehouse.settling import settle
 from mitrehouse.sketches import is_shape, sketch_rows, unknowns_of
-from samples import ONE, ZERO, as_ratio, box_sketch, fraction, num
+from samples import ONE, as_ratio, box_sketch, fraction, num
 
 W = ("of", "w")
 LINE = (("a", "b"), (("level", "a", "b"),))

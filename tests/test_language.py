@@ -78,7 +78,7 @@ LIBRARY = {"math": ["gcd", "lcm", "isqrt"], "itertools": ["combinations", "produ
 BARRED = """typing enum Enum Flag ABC Generic Protocol namedtuple dataclass mro elements open input law register exec
 eval compile globals locals vars dir id help exit""".split()
 STATEMENTS = (ast.Assign, ast.AugAssign, ast.If, ast.While, ast.For, ast.Return, ast.Break, ast.Continue, ast.Pass,
-              ast.Raise, ast.Try, ast.Expr, ast.FunctionDef, ast.ClassDef, ast.ImportFrom, ast.Delete)
+              ast.Raise, ast.Try, ast.Expr, ast.FunctionDef, ast.ClassDef, ast.ImportFrom, ast.Delete, ast.Global)
 
 
 def parsed():
@@ -227,7 +227,7 @@ class Language(unittest.TestCase):
             self.assertTrue(here.isdisjoint(BARRED), name)
 
     def test_only_told_statements_and_signs(self):
-        barred = (ast.Global, ast.Nonlocal, ast.AsyncFunctionDef, ast.Yield, ast.YieldFrom, ast.Await, ast.Starred,
+        barred = (ast.Nonlocal, ast.AsyncFunctionDef, ast.Yield, ast.YieldFrom, ast.Await, ast.Starred,
                   ast.NamedExpr, ast.Div, ast.Pow, ast.MatMult, ast.Set, ast.AnnAssign, ast.Match, ast.With)
         for name, (_, tree) in parsed().items():
             for node in ast.walk(tree):
@@ -241,6 +241,20 @@ class Language(unittest.TestCase):
                     self.assertNotIsInstance(node, barred, name)
                 if isinstance(node, ast.ExceptHandler):
                     self.assertIn(node.type.id, CLASSES["errors"], name)
+
+    def test_global_names(self):
+        files = parsed()
+        imported = [one for _, tree in files.values() for one in module_names(tree)[0]]
+        for name, (_, tree) in files.items():
+            plain = {node.targets[0].id: node.value for node in tree.body if isinstance(node, ast.Assign)}
+            lines = [node for node in ast.walk(tree) if isinstance(node, ast.Global)]
+            # Each stands first behind the docstring of a function, and names one plain value of its own file.
+            heads = [node.body[1] for node in tree.body if isinstance(node, ast.FunctionDef) and len(node.body) > 1]
+            for line in lines:
+                self.assertIn(line, heads, name)
+                self.assertEqual(len(line.names), 1)
+                self.assertIsInstance(plain[line.names[0]], ast.Constant)
+                self.assertNotIn(line.names[0], imported)
 
     def test_sets_are_not_kept(self):
         for name, (_, tree) in parsed().items():

@@ -9,7 +9,7 @@ from mitrehouse.outlines import area, fault
 from mitrehouse.ranges import breaks, reach, shares, stretches
 from mitrehouse.ratios import ratio
 from mitrehouse.settling import settle
-from samples import ONE, RINGS, TWO, ZERO, as_ratio, box_sketch, fraction, num
+from samples import ONE, RINGS, TWO, as_ratio, box_sketch, fraction, num
 
 W, V = ("of", "w"), ("of", "v")
 BOX = box_sketch(W, ("minus", W, ONE))
