@@ -1,13 +1,11 @@
 """Drags: the shape nearest to a told one that fulfils a sketch, with some points where they are wished."""
 
-from mitrehouse.basis import Basis, plain_basis
+from mitrehouse.basis import plain_basis
 from mitrehouse.errors import NotRight, NotThere
 from mitrehouse.linear import fulfils, made, make_row, solution, worth
 from mitrehouse.ratios import ONE, ZERO, minus, plus, times, total
-from mitrehouse.settling import check, shape_from
+from mitrehouse.settling import shape_from
 from mitrehouse.sketches import dot, is_linear, is_sketch, sketch_rows, values_of
-
-INDEX_DIGITS = 4
 
 
 def wish_rows(wishes):
@@ -25,21 +23,7 @@ def checked_rows(sketch, numbers, shape, wishes):
         raise NotRight("it is no sketch, or has a span")
     if sorted(shape) != list(sketch[0]) or not all(point in sketch[0] for point in wishes):
         raise NotRight("the shape or the wishes do not tell points of the sketch")
-    check(sketch, numbers)
     return sketch_rows(sketch, numbers) + wish_rows(wishes)
-
-
-def independent(rows):
-    """Returns the list of the indexes of the rows that do not follow from those ahead; raises NotThere for a clash."""
-    basis = Basis()
-    found = []
-    for index, row in enumerate(rows):
-        if not basis.has(row):
-            basis.put(row, {})
-            found.append(index)
-    if basis.clash is not None:
-        raise NotThere("no shape fulfils the sketch and the wishes")
-    return found
 
 
 def row_dot(row, other):
@@ -50,18 +34,17 @@ def row_dot(row, other):
 
 def drag_factors(rows, values):
     """Returns the factors of a row that, added to values, leads to the nearest ones that fulfil the rows."""
-    picked = independent(rows)
-    names = [str(k).zfill(INDEX_DIGITS) for k in range(len(picked))]
+    names = [str(index) for index in range(len(rows))]
     asked = []
-    for index in picked:
-        terms = [(name, row_dot(rows[index], rows[other])) for name, other in zip(names, picked)]
-        asked.append(make_row(terms, minus(rows[index][1], worth(rows[index], values))))
-    # Rows of which none follows from others have just one answer here.
-    solved = solution(plain_basis(asked).reduced(), names)[1]
-    found = [ZERO for _ in rows]
-    for name, index in zip(names, picked):
-        found[index] = solved[name]
-    return found
+    for row in rows:
+        terms = [(name, row_dot(row, other)) for name, other in zip(names, rows)]
+        asked.append(make_row(terms, minus(row[1], worth(row, values))))
+    # These rows clash just if those do; where some follow from others, any factors for them will do.
+    basis = plain_basis(asked)
+    if basis.clash is not None:
+        raise NotThere("no shape fulfils the sketch and the wishes")
+    found = solution(basis.reduced(), names)[1]
+    return [found[name] for name in names]
 
 
 def steps_by(rows, factors, unknowns):

@@ -116,7 +116,7 @@ class Roster:
         self.faces = all_faces(body)
         self.groups = {}
         self.bits = {}
-        self.names = {}
+        self.known_names = {}
         self.known_marks = None
         for index, face in enumerate(self.faces):
             group = self.groups.setdefault(face[0], [])
@@ -171,9 +171,9 @@ class Roster:
 
     def least_name(self, index):
         """Returns the least name of a face, or None if it has a twin."""
-        if index not in self.names:
-            self.names[index] = self.name_sought(index)
-        return self.names[index]
+        if index not in self.known_names:
+            self.known_names[index] = self.name_sought(index)
+        return self.known_names[index]
 
     def name_sought(self, index):
         """Returns the least name of a face, or None, by the least choice of its marks."""

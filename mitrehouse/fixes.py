@@ -27,6 +27,7 @@ def way_rows(ways, point):
 
 def hold_all(many, groups):
     """Returns True if the rows of all groups are fulfilled by 0 alone for so many unknowns."""
+    # Each group has two rows, so fewer groups cannot do it, and need not be looked at.
     if 2 * len(groups) < many:
         return False
     return len(plain_basis([row for rows in groups for row in rows]).lines) == many
@@ -37,7 +38,7 @@ def are_enough(sketch, numbers, points):
     ways = free_ways(sketch, numbers)
     if not all(point in sketch[0] for point in points):
         raise NotRight("a point is none of the sketch")
-    return hold_all(len(ways), [way_rows(ways, point) for point in sorted(set(points))])
+    return hold_all(len(ways), [way_rows(ways, point) for point in points])
 
 
 def least_fixes(sketch, numbers):
@@ -47,7 +48,7 @@ def least_fixes(sketch, numbers):
     if len(points) > MOST_POINTS:
         raise TooLarge("least fixes are looked for among at most 12 points")
     groups = [way_rows(ways, point) for point in points]
-    found = least_choices(len(points), lambda chosen: hold_all(len(ways), [groups[k] for k in chosen]))
+    found = least_choices(len(points), lambda chosen: hold_all(len(ways), [groups[at] for at in chosen]))
     return [tuple([points[k] for k in chosen]) for chosen in found]
 
 

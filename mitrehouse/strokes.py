@@ -35,12 +35,6 @@ def earlier(one, other):
     return one if is_less(one, other) else other
 
 
-def is_open(times):
-    """Returns True if there are times between two ends, None being no bound."""
-    low, high = times
-    return low is None or high is None or is_less(low, high)
-
-
 def meeting(ends, other, way):
     """Returns the times at which other ends, moved by so much in each time, overlap ends along an axis, or None."""
     if way == ZERO:
@@ -50,13 +44,11 @@ def meeting(ends, other, way):
 
 
 def meetings(boxes, others, axis, way):
-    """Returns the dict from pairs of ends of boxes along an axis to the times of their meeting, where there is one."""
+    """Returns the dict from pairs of ends of boxes along an axis to the times of their meeting, or None."""
     found = {}
     for ends in {box[axis]: True for box in boxes}:
         for other in {box[axis]: True for box in others}:
-            times = meeting(ends, other, way)
-            if times is not None:
-                found[ends, other] = times
+            found[ends, other] = meeting(ends, other, way)
     return found
 
 
@@ -67,7 +59,8 @@ def common_times(several):
         if times is None:
             return None
         low, high = later(low, times[0]), earlier(high, times[1])
-    return (low, high) if is_open((low, high)) else None
+    # There is no bound below just if there is none above, either.
+    return (low, high) if low is None or is_less(low, high) else None
 
 
 def overlapping(boxes, others, way):
@@ -76,7 +69,7 @@ def overlapping(boxes, others, way):
     found = {}
     for box in boxes:
         for other in others:
-            times = common_times([table.get((box[axis], other[axis])) for axis, table in enumerate(tables)])
+            times = common_times([table[box[axis], other[axis]] for axis, table in enumerate(tables)])
             if times is not None:
                 found[times] = True
     return list(found)

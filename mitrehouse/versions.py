@@ -65,7 +65,7 @@ def merged_items(base, left, right):
 
 
 def goes_ahead(name, other, base, here, there):
-    """Returns True if a feature stands ahead of another one here, and not just since there alone was changed.
+    """Returns True if a merged feature stands ahead of another one here, and not just since there alone was changed.
 
     base, here and there are dicts from names of features to indexes.
     """
@@ -73,7 +73,8 @@ def goes_ahead(name, other, base, here, there):
         return False
     if name not in base or other not in base or base[name] > base[other]:
         return True
-    return name not in there or other not in there or there[name] < there[other]
+    # What stands in the base and is merged has been taken away by none of both hands.
+    return there[name] < there[other]
 
 
 def ahead_of_all(names, base, left, right):

@@ -203,6 +203,15 @@ class Papers(unittest.TestCase):
                 other[name] = tuple(pair)
                 self.assertIs(self.accepted(other, self.paper), False)
         self.assertIs(self.accepted({}, self.paper), False)
+        self.assertIs(self.accepted({**self.drag, "e": place(0, 0)}, self.paper), False)
+        self.assertIs(self.accepted({name: self.drag[name] for name in "abc"}, self.paper), False)
+
+    def test_points_in_any_order(self):
+        drag, shape = [{name: told[name] for name in "dbac"} for told in (self.drag, SQUARE)]
+        wishes = {name: self.wishes[name] for name in "ca"}
+        self.assertIs(self.accepted(drag, self.paper, shape=shape, wishes=wishes), True)
+        self.assertEqual(drag_paper(self.sketch, {}, shape, wishes), self.paper)
+        self.assertEqual(dragged(self.sketch, {}, shape, wishes), self.drag)
 
     def test_a_shape_that_fulfils_all_but_is_not_the_nearest(self):
         drag, paper = dragged(LINE, {}, shape_of(a=(0, 1), b=(4, 3)), {}), drag_paper(LINE, {}, shape_of(a=(0, 1), b=(4, 3)), {})

@@ -285,6 +285,18 @@ class Papers(unittest.TestCase):
                      (ratio(1), ratio(1), ratio(2)), (ratio(1), ratio(0), ratio(7))):
             self.assertIs(accepts_standing(FALLS, ("falls", line)), False, line)
 
+    def test_values_of_another_kind(self):
+        weights, line = self.half(pair(1, 0), pair(1, 1)), (ratio(1), ratio(0), ratio(1))
+        fall_line = (ratio(1), ratio(0), ratio(6, 5))
+        for other in (tuple(weights), line, ()):
+            self.assertIs(accepts_standing(TIPS, ("held", other)), False)
+            self.assertIs(accepts_standing(TIPS, ("edge", other, line)), False)
+        three = self.half(*foot(BOX)[:3])
+        for other in (list(fall_line), fall_line[:2], fall_line + (ratio(1),), tuple(three), three, (1, 0, 1), ()):
+            self.assertIs(accepts_standing(FALLS, ("falls", other)), False)
+        for other in (list(line), line[:2], line + (ratio(1),), tuple(three), (1, 0, 1)):
+            self.assertIs(accepts_standing(TIPS, ("edge", weights, other)), False)
+
     def test_each_for_another_word(self):
         bodies = {"held": BOX, "edge": TIPS, "falls": FALLS}
         papers = {word: standing_paper(body) for word, body in bodies.items()}

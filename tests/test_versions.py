@@ -167,6 +167,7 @@ class Changed(unittest.TestCase):
         full = (many[0], tuple(feature("f" + str(k)) for k in range(30)))
         self.assertTrue(is_history(full))
         for told, some in ((history("a"), [("number", "v", (2, 2))]), (history("a"), [("number", "V", ratio(1))]),
+                           (history("a", u=1), [("number", 7, ratio(1))]),
                            (history("a"), [("feature", "b", ("b", "join"))]), (history("a"), [("feature", "b", 7)]),
                            (history("a"), [("feature", "b", part("a"))]), (full, [("number", "more", ratio(1))]),
                            (full, [("feature", "more", feature("more"))])):
