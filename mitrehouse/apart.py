@@ -2,29 +2,20 @@
 
 from itertools import combinations
 
-from mitrehouse.assemblies import overlaps
-from mitrehouse.errors import NotRight, NotThere
-from mitrehouse.grids import check_direction, columns_of, is_direction, next_axes
+from mitrehouse.errors import NotRight, NotThere, TooLarge
+from mitrehouse.grids import (MOST_BOXES, check_direction, cuts_of_both, fine_columns, index_runs, is_direction,
+                              many_boxes)
 from mitrehouse.measures import least_of
 from mitrehouse.outlines import ranks
 from mitrehouse.ratios import minus, sign
+
+MOST_KEPT = 8
+CROWDS = None
 
 
 def ranks_of_both(body, other):
     """Returns for each axis the dict from the cuts of two bodies to their ranks."""
     return [ranks(body[axis] + other[axis]) for axis in range(3)]
-
-
-def fine_columns(body, axis, known):
-    """Returns the dict from columns, by the ranks of their cuts, to the ascending indexes of a body's cells in them."""
-    u, v = next_axes(axis)
-    us, vs = [known[u][cut] for cut in body[u]], [known[v][cut] for cut in body[v]]
-    found = {}
-    for (i, j), indexes in columns_of([place for place, _ in body[3]], axis).items():
-        for column in range(us[i], us[i + 1]):
-            for row in range(vs[j], vs[j + 1]):
-                found[column, row] = indexes
-    return found
 
 
 def blocked_ways(body, other, axis, known):
@@ -78,75 +69,168 @@ def room(bodies, name, direction):
                      for gap in gaps_ahead(bodies[name], bodies[other], direction)])
 
 
-def blocking(bodies):
-    """Returns the dict from pairs of a name and a direction to the ascending lists of the names that block it."""
-    if overlaps(bodies):
-        raise NotRight("two bodies overlap")
-    names = sorted(bodies)
-    found = {(name, direction): [] for name in names for direction in range(6)}
-    for name, other in combinations(names, 2):
-        known = ranks_of_both(bodies[name], bodies[other])
-        for axis in range(3):
-            # What blocks a body in a direction is itself blocked by it in the opposite one.
-            ways = blocked_ways(bodies[name], bodies[other], axis, known)
-            for side in (0, 1):
-                if ways[side]:
-                    found[name, 2 * axis + side].append(other)
-                    found[other, 2 * axis + 1 - side].append(name)
+def are_large(bodies, cuts):
+    """Returns True if the cuts of two of a list of bodies make too many boxes; cuts are those of all of them."""
+    if many_boxes(cuts) <= MOST_BOXES:
+        return False
+    for body, other in combinations(bodies, 2):
+        if many_boxes(cuts_of_both(body, other)) > MOST_BOXES:
+            return True
+    return False
+
+
+def columns_among(bodies, axis, known):
+    """Returns the dict from the columns between all cuts of a list of bodies to the lists of their runs there.
+
+    A run is told by its ends along the axis, as ranks of cuts, and the index of its body.
+    """
+    found = {}
+    for index, body in enumerate(bodies):
+        ends = [known[axis][cut] for cut in body[axis]]
+        for column, indexes in fine_columns(body, axis, known).items():
+            runs = found.setdefault(column, [])
+            runs.extend([(ends[first], ends[behind], index) for first, behind in index_runs(indexes)])
     return found
 
 
-def left_blockers(blocked, left, name, direction):
-    """Returns the names that are left, a dict, of those that block a body in a direction."""
-    return [other for other in blocked[name, direction] if other in left]
+def put_blocks(runs, axis, blocks):
+    """Puts into blocks what blocks what in a column with ascending runs; returns False if two of them overlap.
+
+    blocks has for each body six integers, of which the bits are the indexes of bodies.
+    """
+    reached, seen = runs[0][0], 0
+    for low, high, index in runs:
+        if low < reached:
+            return False
+        reached = high
+        blocks[index][2 * axis] |= seen
+        seen |= 1 << index
+    seen = 0
+    for _, _, index in runs[::-1]:
+        blocks[index][2 * axis + 1] |= seen
+        seen |= 1 << index
+    return True
 
 
-def next_step(blocked, left):
-    """Returns the first name that can be taken away, with the least direction in which it can, or None."""
-    for name in left:
-        for direction in range(6):
-            if not left_blockers(blocked, left, name, direction):
-                return (name, direction)
+def blocks_among(bodies, known):
+    """Returns for each of a list of bodies the six integers of what blocks it, or None if two of them overlap."""
+    blocks = [[0] * 6 for _ in bodies]
+    for axis in range(3):
+        for runs in columns_among(bodies, axis, known).values():
+            if not put_blocks(sorted(runs), axis, blocks):
+                return None
+    # A body with several runs in a column does not block itself.
+    return [[bits - (bits & 1 << index) for bits in six] for index, six in enumerate(blocks)]
+
+
+class Crowd:
+    """Bodies, a dict by their names, and what blocks each of them, if no two of them overlap.
+
+    Names stand for bits, the least name for the lowest one.
+    """
+
+    def __init__(self, bodies):
+        self.solids = {name: body for name, body in bodies.items()}
+        self.order = sorted(bodies)
+        self.bits = {name: 1 << index for index, name in enumerate(self.order)}
+        ordered = [bodies[name] for name in self.order]
+        known = [ranks([cut for body in ordered for cut in body[axis]]) for axis in range(3)]
+        self.large = are_large(ordered, known)
+        found = blocks_among(ordered, known)
+        self.overlap = found is None
+        self.blocks = {} if found is None else {name: six for name, six in zip(self.order, found)}
+
+    def least_in(self, bits):
+        """Returns the least one of the names that bits, at least one, stand for."""
+        return self.order[(bits & -bits).bit_length() - 1]
+
+
+class Crowds:
+    """The crowds that were asked for last, the latest one first."""
+
+    def __init__(self):
+        self.kept = []
+
+
+def crowd_of(bodies):
+    """Returns the crowd of bodies, of any size."""
+    global CROWDS
+    # Who asks in which order bodies come apart asks for many orders of the same bodies.
+    if CROWDS is None:
+        CROWDS = Crowds()
+    crowds = CROWDS
+    for crowd in crowds.kept:
+        if crowd.solids == bodies:
+            return crowd
+    found = Crowd(bodies)
+    crowds.kept = [found] + crowds.kept[:MOST_KEPT - 1]
+    return found
+
+
+def checked_crowd(bodies):
+    """Returns the crowd of bodies; raises TooLarge for too many boxes, then NotRight if two bodies overlap."""
+    crowd = crowd_of(bodies)
+    if crowd.large:
+        raise TooLarge("the cuts of two bodies make more than 20000 boxes")
+    if crowd.overlap:
+        raise NotRight("two bodies overlap")
+    return crowd
+
+
+def next_step(crowd, left):
+    """Returns the first name that can be taken away, with the least direction in which it can, or None.
+
+    left are the bits of the names that are left.
+    """
+    for name in crowd.order:
+        if crowd.bits[name] & left:
+            for direction, bits in enumerate(crowd.blocks[name]):
+                if not bits & left:
+                    return (name, direction)
     return None
+
+
+def ways_apart(crowd):
+    """Returns the steps in which the bodies of a crowd come apart, or which of them hold each other."""
+    left = (1 << len(crowd.order)) - 1
+    steps = []
+    step = next_step(crowd, left)
+    while step is not None:
+        steps.append(step)
+        left -= crowd.bits[step[0]]
+        step = next_step(crowd, left)
+    if not left:
+        return ("apart", steps)
+    return ("held", [(name, [crowd.least_in(bits & left) for bits in crowd.blocks[name]])
+                     for name in crowd.order if crowd.bits[name] & left])
 
 
 def taken_apart(bodies):
     """Returns the steps in which bodies come apart, or which of them hold each other."""
-    blocked = blocking(bodies)
-    left = {name: True for name in sorted(bodies)}
-    steps = []
-    step = next_step(blocked, left)
-    while step is not None:
-        steps.append(step)
-        del left[step[0]]
-        step = next_step(blocked, left)
-    if not left:
-        return ("apart", steps)
-    return ("held", [(name, [left_blockers(blocked, left, name, direction)[0] for direction in range(6)])
-                     for name in left])
+    return ways_apart(checked_crowd(bodies))
 
 
 def accepts_order(bodies, steps):
     """Returns True if steps take away each body once, each where none of those that are left blocks it."""
-    blocked = blocking(bodies)
-    left = {name: True for name in bodies}
+    crowd = checked_crowd(bodies)
+    left = (1 << len(crowd.order)) - 1
     for name, direction in steps:
-        if name not in left or not is_direction(direction) or left_blockers(blocked, left, name, direction):
+        if not crowd.bits.get(name, 0) & left or not is_direction(direction) or crowd.blocks[name][direction] & left:
             return False
-        del left[name]
+        left -= crowd.bits[name]
     return not left
 
 
-def is_held(blocked, name, names, held):
-    """Returns True if a name is blocked in the six directions by these names, all of them held."""
-    return len(names) == 6 and all(other in held and other in blocked[name, direction]
-                                   for direction, other in enumerate(names))
+def is_held(crowd, name, names, held):
+    """Returns True if a name is blocked in the six directions by these names, all of them in a dict."""
+    return len(names) == 6 and all(other in held and bits & crowd.bits[other] != 0
+                                   for other, bits in zip(names, crowd.blocks[name]))
 
 
 def accepts_held(bodies, rows):
     """Returns True if rows show that bodies hold each other."""
-    blocked = blocking(bodies)
-    held = [name for name, _ in rows]
-    if not rows or len(set(held)) < len(held) or not all(name in bodies for name in held):
+    crowd = checked_crowd(bodies)
+    held = {name: True for name, _ in rows}
+    if not rows or len(held) < len(rows) or not all(name in crowd.bits for name in held):
         return False
-    return all(is_held(blocked, name, names, held) for name, names in rows)
+    return all(is_held(crowd, name, names, held) for name, names in rows)

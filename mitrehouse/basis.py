@@ -46,15 +46,15 @@ class Basis:
     """
 
     def __init__(self):
-        self.lines = {}
+        self.leads = {}
         self.clash = None
 
     def rest(self, row, factors):
         """Returns the line of a row, less what the lines of the basis make of it."""
         line = Line(row, factors)
         for lead, factor in row[0]:
-            if lead in self.lines:
-                line.blend(opposite(factor), self.lines[lead])
+            if lead in self.leads:
+                line.blend(opposite(factor), self.leads[lead])
         if self.clash is not None:
             line.blend(opposite(line.constant), self.clash)
         return line
@@ -77,15 +77,15 @@ class Basis:
         """Keeps a line under its lead, which then stands in no other line."""
         lead = min(line.terms)
         line.scale(over(ONE, line.terms[lead]))
-        for other in self.lines.values():
+        for other in self.leads.values():
             if lead in other.terms:
                 other.blend(opposite(other.terms[lead]), line)
-        self.lines[lead] = line
+        self.leads[lead] = line
 
     def reduced(self):
         """Returns the list of the reduced rows, leads ascending."""
-        return [(tuple(sorted(self.lines[lead].terms.items())), self.lines[lead].constant)
-                for lead in sorted(self.lines)]
+        return [(tuple(sorted(self.leads[lead].terms.items())), self.leads[lead].constant)
+                for lead in sorted(self.leads)]
 
 
 def basis_of(rows):

@@ -60,17 +60,17 @@ def faces_at_edges(found):
     return ends
 
 
-def marks_among(found):
-    """Returns the list of the marks of all faces of a body."""
-    marks = [{} for _ in found]
-    for indexes in faces_at_edges(found).values():
+def neighbours_among(many, ends):
+    """Returns for each of so many faces the dict of its neighbours, for what faces_at_edges tells."""
+    found = [{} for _ in range(many)]
+    for indexes in ends.values():
         # Most edges lie within one face, so that the first index is the last one, too.
         if indexes[0] != indexes[-1]:
             for index in indexes:
                 for other in indexes:
                     if other != index:
-                        marks[index][found[other][0]] = True
-    return [tuple(sorted(labels)) for labels in marks]
+                        found[index][other] = True
+    return found
 
 
 def face_area(body, face):
@@ -108,7 +108,7 @@ def bits_at(bits):
 class Roster:
     """The faces of a body with their marks and names, and the indexes of the faces with each label.
 
-    Marks and names are made when they are asked for first, and kept then.
+    Neighbours, marks, names and the edges of the body are made when they are asked for first, and kept then.
     """
 
     def __init__(self, body):
@@ -117,15 +117,30 @@ class Roster:
         self.groups = {}
         self.bits = {}
         self.known_names = {}
+        self.known_lines = None
+        self.known_beside = None
         self.known_marks = None
+        self.known_edges = None
         for index, face in enumerate(self.faces):
             group = self.groups.setdefault(face[0], [])
             group.append(index)
 
+    def side_lines(self):
+        """Returns what faces_at_edges tells of the faces; who is given this, or what follows, does not change it."""
+        if self.known_lines is None:
+            self.known_lines = faces_at_edges(self.faces)
+        return self.known_lines
+
+    def beside(self):
+        """Returns the list of the dicts of the neighbours of the faces."""
+        if self.known_beside is None:
+            self.known_beside = neighbours_among(len(self.faces), self.side_lines())
+        return self.known_beside
+
     def marks(self):
-        """Returns the list of the marks of the faces; who is given it does not change it."""
+        """Returns the list of the marks of the faces."""
         if self.known_marks is None:
-            self.known_marks = marks_among(self.faces)
+            self.known_marks = [tuple(sorted({self.faces[other][0] for other in near})) for near in self.beside()]
         return self.known_marks
 
     def check(self, index):

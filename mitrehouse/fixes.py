@@ -30,7 +30,7 @@ def hold_all(many, groups):
     # Each group has two rows, so fewer groups cannot do it, and need not be looked at.
     if 2 * len(groups) < many:
         return False
-    return len(plain_basis([row for rows in groups for row in rows]).lines) == many
+    return len(plain_basis([row for rows in groups for row in rows]).leads) == many
 
 
 def are_enough(sketch, numbers, points):

@@ -63,6 +63,18 @@ def columns_of(cells, axis):
     return found
 
 
+def fine_columns(body, axis, known):
+    """Returns the dict from columns, by the ranks of their cuts, to the ascending indexes of a body's cells in them."""
+    u, v = next_axes(axis)
+    us, vs = [known[u][cut] for cut in body[u]], [known[v][cut] for cut in body[v]]
+    found = {}
+    for (i, j), indexes in columns_of([place for place, _ in body[3]], axis).items():
+        for column in range(us[i], us[i + 1]):
+            for row in range(vs[j], vs[j + 1]):
+                found[column, row] = indexes
+    return found
+
+
 def whole_cuts(cuts):
     """Returns integers that are as far from each other as cuts, and how many of them make 1."""
     scale = common_below(cuts)
@@ -111,10 +123,20 @@ def without_needless(cuts, cells):
     return (left, cells)
 
 
-def common_cuts(body, other):
+def many_boxes(cuts):
+    """Returns how many boxes there are between the cuts of the three axes."""
+    return (len(cuts[0]) - 1) * (len(cuts[1]) - 1) * (len(cuts[2]) - 1)
+
+
+def cuts_of_both(body, other):
     """Returns the list of the cuts of both bodies along the three axes."""
-    found = [ascending(body[axis] + other[axis]) for axis in range(3)]
-    if (len(found[0]) - 1) * (len(found[1]) - 1) * (len(found[2]) - 1) > MOST_BOXES:
+    return [ascending(body[axis] + other[axis]) for axis in range(3)]
+
+
+def common_cuts(body, other):
+    """Returns the list of the cuts of both bodies along the three axes; raises TooLarge for too many boxes."""
+    found = cuts_of_both(body, other)
+    if many_boxes(found) > MOST_BOXES:
         raise TooLarge("the cuts of both bodies make more than 20000 boxes")
     return found
 

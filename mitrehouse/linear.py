@@ -112,7 +112,7 @@ def reduced_rows(rows, unknowns):
 
 def frame(rows, unknowns):
     """Returns an accepted frame for rows and unknowns."""
-    lines = settled_basis(rows, unknowns).lines
+    lines = settled_basis(rows, unknowns).leads
     return [(lead, factor_list(lines[lead].factors, len(rows))) for lead in sorted(lines)]
 
 
@@ -194,7 +194,7 @@ def least_clashes(groups):
     if basis.clash is None:
         return []
     # Factors that take away the leads take away all unknowns: so the others need not be looked at.
-    short = shortened(groups, basis.lines)
+    short = shortened(groups, basis.leads)
     return least_choices(len(groups), lambda chosen: is_conflict(short, chosen))
 
 

@@ -61,6 +61,25 @@ INTERFACE = {
     "strokes": ["strokes(bodies, ways)", "are_clear(bodies, ways, time)", "stroke_at(bodies, ways, time)"],
     "standing": ["foot(body)", "hull(corners)", "stands(body)", "standing_paper(body)",
                  "accepts_standing(body, paper)"],
+    "growing": ["grown(body, by)", "shrunk(body, by)", "opened(body, by)", "box_distance(body, other)"],
+    "mirrors": ["mirrored(body, axis)", "mirrors(body)", "spins(body)"],
+    "stacks": ["heights(bodies)", "top_of(bodies)", "stacked(bodies)", "rest_corners(body, others)",
+               "holds_up(bodies)", "first_fall(bodies)"],
+    "edges": ["edges(body)", "edge_length(body, kind)", "longest_edge(body)", "edges_of_face(body, index)"],
+    "choosing": ["is_choice(value)", "chosen(body, choice)", "write_choice(choice)", "read_choice(text)"],
+    "words": ["write_length(length)", "read_length(words)", "write_label(label)", "read_label(word)",
+              "write_face_name(name)", "read_face_name(words)", "write_constraint(constraint)",
+              "read_constraint(words)"],
+    "texts": ["write_history(history)", "read_history(text)", "write_assembly(parts, mates)", "read_assembly(text)"],
+    "slices": ["rings_of(flat)", "ring_area(ring)", "ring_length(ring)", "flat_of(rings)",
+               "slices(body, axis, thickness)"],
+    "checkrows": ["takes_clash(rows, factors)", "takes_values(rows, values)", "takes_frame(rows, frame)"],
+    "checksketch": ["takes_told(sketch, numbers, told, paper)", "takes_shape(sketch, numbers, shape)",
+                    "takes_drag(sketch, numbers, shape, wishes, drag, paper)"],
+    "checkbody": ["takes_body(value)", "takes_name(body, face, name, others)", "takes_order(bodies, steps)",
+                  "takes_held(bodies, rows)", "takes_standing(body, paper)"],
+    "desk": ["answers_to(lines)"],
+    "journal": ["resume(text)"],
 }
 CLASSES = {
     "errors": {"MitreError": [], "NotNumber": [], "NotThere": [], "NotRight": [], "TooLarge": [],
@@ -68,7 +87,10 @@ CLASSES = {
     "drawings": {"Drawing": ["__init__(self, history)", "history(self)", "take(self, history)",
                              "set_number(self, name, ratio)", "drop_number(self, name)", "put(self, at, feature)",
                              "drop(self, name)", "body(self)", "anew(self)"]},
+    "desk": {"Desk": ["__init__(self)", "obey(self, line)", "names(self)", "history(self, name)"]},
+    "journal": {"Journal": ["__init__(self)", "obey(self, line)", "record(self)", "lines(self)"]},
 }
+CHECKERS = ("checkrows", "checksketch", "checkbody")
 ALLOWED = """len range enumerate zip min max sum abs sorted reversed int str bool list tuple dict set isinstance ord repr
 any all divmod ValueError TypeError KeyError IndexError LookupError ZeroDivisionError""".split()
 METHODS = """append clear copy count endswith extend find get index insert isalnum isalpha isdigit islower isspace
@@ -167,6 +189,23 @@ class Language(unittest.TestCase):
                 _, defined, values = module_names(files[stem][1])
                 self.assertEqual([one for one in wanted if one not in defined + values], [], name)
 
+    def test_checkers_import_errors_ratios_and_one_another(self):
+        files = parsed()
+        for name in CHECKERS:
+            modules = [node.module for node in ast.walk(files[name][1]) if isinstance(node, ast.ImportFrom)]
+            allowed = ["mitrehouse." + one for one in ("errors", "ratios") + CHECKERS]
+            self.assertEqual([one for one in modules if one not in allowed], [], name)
+
+    def test_no_name_is_a_method_and_an_attribute(self):
+        methods, attributes = {}, {}
+        for name, (_, tree) in parsed().items():
+            for node in ast.walk(tree):
+                if isinstance(node, ast.ClassDef):
+                    methods.update({one.name: name for one in node.body if isinstance(one, ast.FunctionDef)})
+                if isinstance(node, ast.Attribute) and isinstance(node.ctx, ast.Store):
+                    attributes[node.attr] = name
+        self.assertEqual([one for one in methods if one in attributes], [])
+
     def test_no_imports_in_rings(self):
         needed = {name: [node.module.partition(".")[2] for node in tree.body if isinstance(node, ast.ImportFrom)
                          and node.module not in LIBRARY] for name, (_, tree) in parsed().items()}
@@ -196,7 +235,7 @@ class Language(unittest.TestCase):
         for name, (_, tree) in texts.items():
             _, defined, values = module_names(tree)
             for one in defined + values:
-                self.assertTrue(one in read or one in told or one in ("Drawing", "Malformed"), name + "." + one)
+                self.assertTrue(one in read or one in told or one in ("Drawing", "Malformed", "Journal"), name + "." + one)
 
     def test_names_have_one_meaning(self):
         taken = [one for one in dir(builtins) if one != "_"]
@@ -240,7 +279,16 @@ class Language(unittest.TestCase):
                 if not (name == "ratios" and isinstance(node, ast.Pow)):
                     self.assertNotIsInstance(node, barred, name)
                 if isinstance(node, ast.ExceptHandler):
-                    self.assertIn(node.type.id, CLASSES["errors"], name)
+                    self.assertIn(node.type.id, list(CLASSES["errors"]) + ["Refused"], name)
+
+    def test_the_library_is_not_asked_in_generators(self):
+        words = [word for words in LIBRARY.values() for word in words]
+        for name, (_, tree) in parsed().items():
+            for node in ast.walk(tree):
+                if isinstance(node, ast.GeneratorExp):
+                    calls = [one.func.id for one in ast.walk(node) if isinstance(one, ast.Call)
+                             and isinstance(one.func, ast.Name)]
+                    self.assertEqual([one for one in calls if one in words], [], name)
 
     def test_global_names(self):
         files = parsed()

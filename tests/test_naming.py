@@ -144,7 +144,7 @@ class Naming(unittest.TestCase):
     def test_the_faces_of_a_body_are_made_once(self):
         body, other = moved(BODY, (ratio(77), ratio(0), ratio(0))), moved(BODY, (ratio(78), ratio(0), ratio(0)))
         with mock.patch.object(module, "all_faces", wraps=module.all_faces) as made, \
-                mock.patch.object(module, "marks_among", wraps=module.marks_among) as marked:
+                mock.patch.object(module, "neighbours_among", wraps=module.neighbours_among) as marked:
             for index in range(23):
                 self.assertEqual(least_name(body, index), self.told.names[index])
                 self.assertEqual(twin(body, index), self.told.twin(index))
