@@ -3,7 +3,6 @@
 from mitrehouse.bodies import EMPTY, cut, extent, thin
 from mitrehouse.errors import NotNumber, TooLarge
 from mitrehouse.grids import MOST_BOXES, columns_of, index_runs, many_boxes, neighbours, placed
-from mitrehouse.measures import check_full
 from mitrehouse.outlines import ranks
 from mitrehouse.ratios import common_below, minus, plus, ratio, sign
 from mitrehouse.strokes import boxes_of
@@ -46,8 +45,6 @@ def with_label(full, label):
 def grown(body, by):
     """Returns the body grown by a ratio."""
     check_above(by)
-    if body == EMPTY:
-        return EMPTY
     ends = larger_ends(body, by)
     known = [ranks(list(lows.values()) + list(highs.values())) for lows, highs in ends]
     if many_boxes(known) > MOST_BOXES:
@@ -126,9 +123,7 @@ def nearest(boxes, others, axis, known, best):
 
 
 def box_distance(body, other):
-    """Returns the box distance of two bodies."""
-    check_full(body)
-    check_full(other)
+    """Returns the box distance of two bodies; raises NotThere, as boxes_of does, if one of them is empty."""
     scale = common_below([cut_at for solid in (body, other) for axis in range(3) for cut_at in solid[axis]])
     boxes, others = whole_boxes(body, scale), whole_boxes(other, scale)
     first = max([gap_between(boxes[0][axis], others[0][axis]) for axis in range(3)])

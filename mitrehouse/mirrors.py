@@ -2,7 +2,6 @@
 
 from mitrehouse.bodies import extent, moved, turned, unlabelled
 from mitrehouse.grids import check_axis
-from mitrehouse.measures import check_full
 from mitrehouse.ratios import ZERO, minus, opposite, over, plus
 
 TWO = (2, 1)
@@ -20,14 +19,12 @@ def mirrored(body, axis):
     """Returns the body mirrored along an axis."""
     check_axis(axis)
     cuts = tuple([opposite(one) for one in body[axis][::-1]])
-    cells = {place: labels for place, labels in [mirrored_cell(cell, axis, len(cuts) - 2) for cell in body[3]]}
-    xs, ys, zs = body[:axis] + (cuts,) + body[axis + 1:3]
-    return (xs, ys, zs, tuple(sorted(cells.items())))
+    cells = sorted([mirrored_cell(cell, axis, len(cuts) - 2) for cell in body[3]])
+    return body[:axis] + (cuts,) + body[axis + 1:3] + (tuple(cells),)
 
 
 def mirrors(body):
-    """Returns the list of the mirrors of a body, pairs of an axis and a ratio."""
-    check_full(body)
+    """Returns the list of the mirrors of a body, pairs of an axis and a ratio; raises NotThere if it is empty."""
     plain = unlabelled(body)
     low, high = extent(plain)
     found = []
@@ -40,8 +37,10 @@ def mirrors(body):
 
 
 def spins(body):
-    """Returns the ascending list of the numbers of turns after which a body, moved, has the same places full."""
-    check_full(body)
+    """Returns the ascending list of the turns after which a body, moved, has the same places full.
+
+    Raises NotThere, as extent does, if the body is empty.
+    """
     plain = unlabelled(body)
     found = []
     for turns in range(1, 4):

@@ -112,11 +112,8 @@ def flat_within(sides):
 
 def flat_of(rings):
     """Returns the thin flat whose rings a list of rings are."""
-    sides = [side for ring in rings for side in sides_of_ring(ring)]
-    if any((p[0] == q[0]) == (p[1] == q[1]) for p, q in sides):
-        raise NotRight("a side is neither level nor plumb")
-    found = flat_within(sides)
-    # Each flat has just one list of rings, so that no other one than this need be looked at.
+    found = flat_within([side for ring in rings for side in sides_of_ring(ring)])
+    # Each flat has just one list of rings, in which all sides are level or plumb; so no more need be looked at.
     if rings_of(found) != [list(ring) for ring in rings]:
         raise NotRight("these are the rings of no flat")
     return found

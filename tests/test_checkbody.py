@@ -11,9 +11,10 @@ from mitrehouse.faces import accepts_name, faces, least_name, marks_of, name_pap
 from mitrehouse.ratios import ratio
 from mitrehouse.standing import accepts_standing, standing_paper
 from changes import changed
-from samples import block, grid_body
+from samples import as_ratio, block, fraction, grid_body
 from test_apart import CASE, CHAIN, scattered
 from test_bodies import random_body, triple
+from test_crowds import EIGHT
 from test_naming import BODY as MARKED
 from test_measures import stretched
 from test_standing import FALLS, STANDS, TIPS
@@ -22,13 +23,38 @@ BOX = block((0, 0, 0), (2, 1, 1))
 HALVES = joined(block((0, 0, 0), (1, 1, 1)), block((1, 0, 0), (2, 1, 1), "g"))
 
 
+def booleans(value):
+    """Returns a value with True for 1 and False for 0 in it, which is equal to it."""
+    if isinstance(value, tuple):
+        return tuple(booleans(one) for one in value)
+    return bool(value) if value in (0, 1) and not isinstance(value, str) else value
+
+
 def with_true(body):
-    """Returns a value that is equal to a body but has True for 1 and False for 0 among its numbers."""
-    def other(value):
-        if isinstance(value, tuple):
-            return tuple(other(one) for one in value)
-        return bool(value) if value in (0, 1) and not isinstance(value, str) else value
-    return other(body)
+    return booleans(body)
+
+
+def with_true_cuts(body):
+    return (booleans(body[0]),) + body[1:]
+
+
+def with_true_places(body):
+    return body[:3] + (booleans(body[3]),)
+
+
+def with_a_cut(body, axis, at):
+    """Returns a body whose layer along an axis is divided by one more cut, which is not needed."""
+    low, high = fraction(body[axis][at]), fraction(body[axis][at + 1])
+    cuts = body[axis][:at + 1] + (as_ratio((low + high) / 2),) + body[axis][at + 1:]
+    cells = {}
+    for place, labels in body[3]:
+        ends = (labels[2 * axis], labels[2 * axis + 1])
+        parts = [(place[axis], (ends[0], None)), (place[axis] + 1, (None, ends[1]))]
+        if place[axis] != at:
+            parts = [(place[axis] + (place[axis] > at), ends)]
+        for index, pair in parts:
+            cells[place[:axis] + (index,) + place[axis + 1:]] = labels[:2 * axis] + pair + labels[2 * axis + 2:]
+    return body[:axis] + (cuts,) + body[axis + 1:3] + (tuple(sorted(cells.items())),)
 
 
 class Bodies(unittest.TestCase):
@@ -64,6 +90,25 @@ class Bodies(unittest.TestCase):
         self.assertTrue(self.check(other))
         self.assertFalse(self.check((half, ys, zs, (split[3][0], ((1, 0, 0), (None, ("g", "s1")) + labels[2:])))))
 
+    def test_needless_cuts_along_each_axis(self):
+        chance = random.Random(52)
+        for _ in range(30):
+            body = random_body(chance, "f", 2)
+            if body == EMPTY:
+                continue
+            for axis in range(3):
+                at = chance.randrange(len(body[axis]) - 1)
+                self.assertFalse(self.check(with_a_cut(body, axis, at)))
+
+    def test_a_cut_that_one_label_needs(self):
+        for axis in range(3):
+            split = with_a_cut(BOX, axis, 0)
+            for direction in range(6):
+                (first, labels), (second, others) = split[3]
+                put = others[:direction] + (("g", "s"),) + others[direction + 1:]
+                wanted = direction // 2 != axis
+                self.assertIs(self.check(split[:3] + (((first, labels), (second, put)),)), wanted)
+
     def test_what_is_near_a_body(self):
         xs, ys, zs, ((place, labels),) = BOX
         for value in (None, (), [], "body", 5, (xs, ys, zs), (xs, ys, zs, (), ()), list(BOX), (list(xs), ys, zs, ((place, labels),)),
@@ -72,6 +117,7 @@ class Bodies(unittest.TestCase):
                       (xs, ys, zs, ((place, labels), (place, labels))), (xs, ys, zs, (((0, 0), labels),)), (xs, ys, zs, ()),
                       (xs, ys, zs, (((0, 0, 1), labels),)), (xs, ys, zs, (((0, 0, -1), labels),)), (xs, ys, zs, ((place, (None,) * 6),)),
                       (xs, ys, zs, (((0, 0, "0"), labels),)), (xs, ys, zs, ((place, (("f",),) + labels[1:]),)),
+                      (xs, ys, zs, ((place, ((1, "s"),) + labels[1:]),)), (xs, ys, zs, ((place, ((None, "s"),) + labels[1:]),)),
                       (xs, ys, zs, ((place, (["f", "s"],) + labels[1:]),)), (xs, ys, zs, ((place, (("f", 1),) + labels[1:]),)),
                       (xs, ys, zs, ((place, ("fs",) + labels[1:]),)), ((xs[1], xs[0]), ys, zs, ((place, labels),)),
                       ((xs[0], xs[0]), ys, zs, ((place, labels),)), (((0, 1), (4, 2)), ys, zs, ((place, labels),)),
@@ -169,7 +215,9 @@ class Names(unittest.TestCase):
     def test_no_body(self):
         face = faces(BOX)[5]
         self.assertIs(takes_name(BOX, face, (face[0], ()), []), True)
-        for wrong in (None, (), BOX[:3], with_true(BOX), list(BOX), BOX[:3] + ((BOX[3][0], BOX[3][0]),)):
+        for wrong in (None, (), BOX[:3], with_true(BOX), with_true_cuts(BOX), with_true_places(BOX), list(BOX),
+                      BOX[:3] + ((BOX[3][0], BOX[3][0]),)):
+            self.assertEqual(with_true_cuts(BOX), BOX)
             self.assertRaises(NotRight, takes_name, wrong, face, (face[0], ()), [])
         self.assertIs(takes_name(EMPTY, face, (face[0], ()), []), False)
 
@@ -206,6 +254,22 @@ class Apart(unittest.TestCase):
         self.assertEqual(self.check({"a": BOX, "b": moved(BOX, triple(0, 1, 0))}), "apart")
         self.assertEqual(self.check({"a": BOX}), "apart")
 
+    def test_eight_bodies_that_hold_each_other(self):
+        self.assertEqual(self.check(EIGHT), "held")
+        rows = taken_apart(EIGHT)[1]
+        wrong = [(name, d, other) for name, _ in rows for d in range(6) for other in sorted(EIGHT)]
+        taken = 0
+        for name, d, other in wrong:
+            telling = [(one, names[:d] + [other] + names[d + 1:] if one == name else names) for one, names in rows]
+            self.assertIs(takes_held(EIGHT, telling), accepts_held(EIGHT, telling))
+            taken += takes_held(EIGHT, telling)
+        self.assertTrue(50 < taken < len(wrong) - 50)
+
+    def test_a_direction_that_is_true(self):
+        self.assertIs(takes_order({"a": BOX}, [("a", 1)]), True)
+        for direction in (True, 6, -1, "1", None):
+            self.assertIs(takes_order({"a": BOX}, [("a", direction)]), False)
+
     def test_random_bodies(self):
         chance = random.Random(106)
         words = {self.check(scattered(chance, chance.randint(2, 5))) for _ in range(40)}
@@ -231,7 +295,8 @@ class Apart(unittest.TestCase):
         pair = {"a": BOX, "b": moved(BOX, triple(0, 1, 0))}
         steps = [("a", 0), ("b", 0)]
         self.assertIs(takes_order(pair, steps), True)
-        for wrong in (None, (), BOX[:3], with_true(BOX), list(BOX), (BOX[0], BOX[1], BOX[2], BOX[3] * 2)):
+        for wrong in (None, (), BOX[:3], with_true(BOX), with_true_cuts(BOX), with_true_places(BOX), list(BOX),
+                      (BOX[0], BOX[1], BOX[2], BOX[3] * 2)):
             for bodies in ({**pair, "a": wrong}, {**pair, "b": wrong}, {**pair, "c": wrong}):
                 self.assertRaises(NotRight, takes_order, bodies, steps)
                 self.assertRaises(NotRight, takes_held, bodies, [])

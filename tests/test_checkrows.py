@@ -111,6 +111,9 @@ class Frames(unittest.TestCase):
         self.assertIs(takes_frame(rows, told[::-1]), False)
         self.assertIs(takes_frame(rows, told + told[-1:]), False)
         self.assertIs(takes_frame([], []), True)
+        # A pair that makes a row without its lead.
+        self.assertIs(takes_frame([], [("x", [])]), False)
+        self.assertIs(takes_frame(rows, told + [("z", [ratio(0), ratio(0)])]), False)
         self.assertIs(takes_frame(rows, []), False)
         self.assertIs(takes_frame([((), ratio(0))], []), True)
         self.assertIs(takes_frame([((), ratio(1))], []), False)

@@ -31,17 +31,32 @@ def wrong_sketches():
                        ("flat", "a", "b"), (), None, "level", ("plumb", "a", None), ("across", "a", "b"), ("across", "a", "b", ratio(1)),
                        ("across", "a", "b", ("num", (2, 2))), ("across", "a", "b", ("num", 1)), ("up", "a", "b", ("of", "W")),
                        ("up", "a", "b", ("of", "w", "h")), ("up", "a", "b", ("plus", W)), ("up", "a", "b", ("times", W, W)),
-                       ("up", "a", "b", ("over", W, W)), ("up", "a", "b", ["of", "w"]), ("fix", "a", ZERO), ("fix", "a", ZERO, None),
+                       ("up", "a", "b", ("over", W, W)), ("up", "a", "b", ("plus", W, None)), ("up", "a", "b", ("minus", None, W)),
+                       ("up", "a", "b", ("plus", W, ("num", 1))), ("up", "a", "b", ("times", ratio(1), None)), ("up", "a", "b", ("times", (2, 2), W)),
+                       ("up", "a", "b", ("off", "w")), ("up", "a", "b", ("of",)), ("up", "a", "b", ("plus", W, W, W)), ("up", "a", "b", ()),
+                       ("up", "a", "b", left(9)), ("up", "a", "b", scaled(9)), ("up", "a", "b", right(9)), ("up", "a", "b", ["of", "w"]), ("fix", "a", ZERO), ("fix", "a", ZERO, None),
                        ("fix", "z", ZERO, ZERO), ("even", "a", "b", "c", "c"), ("even", "a", "a", "b", "c"), ("turn", "a", "b", "c"),
                        ("part", "a", "a", "b", ratio(1)), ("part", "c", "a", "a", ratio(1)), ("part", "a", "b", "a", ratio(1)),
                        ("part", "a", "b", "c", ("num", ratio(1))), ("part", "a", "b", "c", (1, 0)), ("part", "a", "b", "c", (True, 1)),
                        ("wide", "a", "b", "a", "b"), ("wide", "a", "b", "c", "c", ratio(1)), ("high", "a", "b", "b", "a", None),
-                       ("span", "a", "b"), ("span", "a", "a", ONE), ("span", "a", "b", deep(9)), (1, "a", "b"), (("level",), "a", "b")):
+                       ("span", "a", "b"), ("span", "a", "a", ONE), ("span", "a", "b", deep(9)), (1, "a", "b"), (("level",), "a", "b"), (["level"], "a", "b")):
         yield of("abc", constraint)
 
 
 def deep(depth):
     return W if depth == 1 else ("minus", deep(depth - 1), ONE)
+
+
+def left(depth):
+    return ("num", ratio(1)) if depth == 1 else ("plus", left(depth - 1), W)
+
+
+def right(depth):
+    return W if depth == 1 else ("plus", ONE, right(depth - 1))
+
+
+def scaled(depth):
+    return W if depth == 1 else ("times", ratio(1, 2), scaled(depth - 1))
 
 
 class Told(unittest.TestCase):
@@ -70,7 +85,13 @@ class Told(unittest.TestCase):
             self.check((EACH_WORD[0], EACH_WORD[1][:k] + EACH_WORD[1][k + 1:]), {"w": ratio(3)})
             self.check((EACH_WORD[0], (FIX, EACH_WORD[1][k])), {"w": ratio(3)})
         self.check(box_sketch(W, ("times", ratio(-1, 2), W)), {"w": ratio(3)})
-        self.check(of("ab", ("across", "a", "b", deep(8))), {"w": ratio(3)})
+        for length in (deep(8), left(8), right(8), scaled(8)):
+            self.check(of("ab", ("across", "a", "b", length)), {"w": ratio(3)})
+
+    def test_the_fewest_and_the_most_points_and_constraints(self):
+        points = tuple(f"p{k:02d}" for k in range(24))
+        for sketch in ((points, ()), of("ab", *[LEVEL] * 40), of("a", FIX), of("a")):
+            self.assertIs(takes_told(sketch, {}, settle(sketch, {}), paper_of(sketch, {})), True)
 
     def test_random_sketches(self):
         chance = random.Random(34)
@@ -140,6 +161,7 @@ class Shapes(unittest.TestCase):
         self.assertTrue(self.check(CASES["some"], {}, {**shape, "c": place(3, -4)}))
         for wrong in ({}, {**shape, "c": place(3, 3)}, {**shape, "d": place(0, 0)}, {"a": place(0, 0), "b": place(3, 0)}):
             self.assertFalse(self.check(CASES["some"], {}, wrong))
+        self.assertIs(takes_shape(CASES["some"], {}, {point: shape[point] for point in "cba"}), True)
         self.assertIs(takes_shape(ROD, {}, {**shape, "c": ((6, 2), (1, 1))}), False)
         self.assertIs(takes_shape(of("ab"), {}, {"a": place(0, 0), "b": (None, (1, 1))}), False)
 
@@ -194,6 +216,14 @@ class Drags(unittest.TestCase):
         self.assertIs(takes_drag(LINE, {}, shape, wishes, shape_of(a=(1, 2), b=(3, 2)), paper), False)
         self.assertIs(takes_drag(LINE, {}, shape, wishes, shape_of(a=(0, 2), b=(3, 2)), paper + [NOUGHT]), False)
         self.assertIs(takes_drag(LINE, {}, shape, wishes, shape_of(a=(0, 2), b=(3, 2)), []), False)
+        # In any order of the points.
+        self.assertIs(takes_drag(LINE, {}, shape_of(b=(3, 0), a=(0, 0)), wishes, shape_of(b=(3, 2), a=(0, 2)), paper), True)
+
+    def test_steps_that_are_made_but_do_not_lead_to_the_rows(self):
+        shape = shape_of(a=(0, 1), b=(3, 0))
+        self.assertIs(takes_drag(LINE, {}, shape, {}, shape, [NOUGHT]), False)
+        self.assertIs(takes_drag(LINE, {}, shape, {}, shape_of(a=(0, 0), b=(3, 1)), [ratio(1)]), False)
+        self.assertIs(takes_drag(LINE, {}, shape, {}, shape_of(a=(0, "1/2"), b=(3, "1/2")), [ratio(1, 2)]), True)
 
     def test_errors(self):
         shape = shape_of(a=(0, 0), b=(3, 0))

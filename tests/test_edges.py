@@ -166,6 +166,25 @@ class Edges(unittest.TestCase):
         line = [(edge[2], edge[4]) for edge in self.check(body) if edge[0] == 2 and edge[1] == (ratio(1), ratio(1))]
         self.assertEqual(line, [(ratio(0), "out"), (ratio(1), "in"), (ratio(2), "cross")])
 
+    def test_stretches_of_the_same_faces_with_a_gap(self):
+        # A notch in the middle of an edge: both faces go round it.
+        places = [place for place in product(range(3), range(2), range(2)) if place != (1, 0, 1)]
+        found = [edge for edge in self.check(grid_body(places)) if edge[0] == 0 and edge[1] == (ratio(0), ratio(2))]
+        self.assertEqual([(edge[2], edge[3]) for edge in found], [(ratio(0), ratio(1)), (ratio(2), ratio(3))])
+        self.assertEqual(found[0][4:], found[1][4:])
+
+    def test_the_same_faces_on_neighbouring_lines(self):
+        # The border of two labels in one plane goes along y, one step aside, and along y again.
+        cells = labelled_cells([(i, j, 0) for i in range(3) for j in range(2)], lambda place, d: label_of("f", d))
+        for place in ((1, 0, 0), (2, 0, 0), (2, 1, 0)):
+            cells[place] = cells[place][:5] + (("g", "top"),)
+        cuts = [tuple(ratio(at) for at in range(4))] * 3
+        found = [edge for edge in self.check(thin(*cuts, cells)) if edge[4] == "flat"]
+        self.assertEqual([edge[:4] for edge in found], [
+            (0, (ratio(1), ratio(1)), ratio(1), ratio(2)), (1, (ratio(1), ratio(1)), ratio(0), ratio(1)),
+            (1, (ratio(1), ratio(2)), ratio(1), ratio(2))])
+        self.assertEqual(len({edge[4:] for edge in found}), 1)
+
     def test_all_labels_alike(self):
         chance = random.Random(151)
         for _ in range(20):

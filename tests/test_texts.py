@@ -164,7 +164,7 @@ class MalformedHistories(unittest.TestCase):
                 ("number", ("number H 1", "number 1h 1", "number abcdefghijklm 1", "number h 2/4", "number h 01", "number h -0",
                             "number h x", "number h 1/0", "number h " + "1" * 31, "number h 1/" + "2" * 31, "number 1 h")),
                 ("feature", ("feature F1 join", "feature f1 glue", "feature f1 Join", "feature join f1", "feature f-1 join")),
-                ("base", ("base 3 num 0", "base -1 num 0", "base 00 num 0", "base x num 0", "base 0", "base 0 of W", "base 0 num",
+                ("base", ("base", "base 3 num 0", "base -1 num 0", "base 00 num 0", "base x num 0", "base 0", "base 0 of W", "base 0 num",
                           "base num 0", "base 0 num 1 num 2", "base 0 " + "plus num 1 " * 8 + "num 1", "on f1", "on f1:low & b:c & a:b",
                           "on f1:low & a:b & a:b", "on f1:low a:b", "on")),
                 ("points", ("points a B", "points a b&c", "points a " + "b" * 61, "points a:b")),
