@@ -5,9 +5,10 @@ from mitrehouse.errors import Malformed, NotRight
 from mitrehouse.histories import DEEDS, built, check_history
 from mitrehouse.ratios import write_ratio, write_whole
 from mitrehouse.words import (checked_word, name_of, ratio_of, read_constraint, read_face_name, read_length, whole_of,
-                              write_constraint, write_face_name, write_length)
+                              whole_up_to, write_constraint, write_face_name, write_length)
 
-AXES = ("0", "1", "2")
+LAST_AXIS = 2
+MOST_TURNS = 3
 
 
 def place_row(place):
@@ -121,9 +122,9 @@ def read_head(words):
 
 def read_base(words):
     """Returns the place of the words AXIS LENGTH."""
-    if not words or words[0] not in AXES:
-        raise NotRight("it is no axis")
-    return ("base", int(words[0]), read_length(words[1:]))
+    if not words:
+        raise NotRight("there is no axis")
+    return ("base", whole_up_to(words[0], LAST_AXIS), read_length(words[1:]))
 
 
 def read_on(words):
@@ -132,7 +133,12 @@ def read_on(words):
 
 
 def read_points(words):
-    """Returns the tuple of any number of points."""
+    """Returns the tuple of any number of points of a sketch."""
+    return tuple([name_of(word) for word in words])
+
+
+def read_ring(words):
+    """Returns the tuple of any number of corners, which may be strings that are no names."""
     return tuple([checked_word(word) for word in words])
 
 
@@ -150,7 +156,7 @@ def read_nothing(words):
 def read_part(words):
     """Returns the name and the turns of the words NAME TURNS."""
     check_many(words, 2)
-    return (name_of(words[0]), whole_of(words[1]))
+    return (name_of(words[0]), whole_up_to(words[1], MOST_TURNS))
 
 
 def read_hold(words):
@@ -178,7 +184,7 @@ def feature_from(rows):
     points = rows.take("points", read_points)
     constraints = tuple(rows.take_all("ask", read_constraint))
     pick = rows.take("pick", read_pick)
-    rings = tuple(rows.take_all("ring", read_points))
+    rings = tuple(rows.take_all("ring", read_ring))
     low = rows.take("low", read_length)
     high = rows.take("high", read_length)
     rows.take("end", read_nothing)

@@ -11,12 +11,12 @@ MOST_SIGNS = 60
 
 
 def is_written(word):
-    """Returns True if a string can stand as a string of a label or a ring in a text."""
+    """Returns True if a word can stand as a string of a label or a ring in a text; points of sketches are names."""
     return 1 <= len(word) <= MOST_SIGNS and all(letter in SIGNS for letter in word)
 
 
 def checked_word(word):
-    """Returns a string that can stand in a text; raises NotRight for another one."""
+    """Returns a string of a label or a ring that can stand in a text; raises NotRight for another one."""
     if not is_written(word):
         raise NotRight("a string has 1 to 60 small letters, digits, points, dashes and low lines")
     return word
@@ -42,6 +42,14 @@ def whole_of(word):
     if not are_digits(word) or str(int(word)) != word:
         raise NotRight("it is no integer of at least 0")
     return int(word)
+
+
+def whole_up_to(word, most):
+    """Returns the integer of a word, at most so great; raises NotRight if it is none."""
+    found = whole_of(word)
+    if found > most:
+        raise NotRight("it is too great")
+    return found
 
 
 def write_length(length):
@@ -120,13 +128,13 @@ def write_constraint(constraint):
 
 
 def read_constraint(words):
-    """Returns the tuple of the list of the words of a constraint, which need not be one of a sketch."""
+    """Returns the tuple of the words of a constraint; its points are names, perhaps equal ones or of no sketch."""
     if not words or words[0] not in FORMS:
         raise NotRight("no constraint begins with this word")
     many, lengths, ratios = FORMS[words[0]]
     if len(words) < 1 + many + ratios:
         raise NotRight("a constraint has too few words")
-    found = [words[0]] + [checked_word(word) for word in words[1:1 + many]]
+    found = [words[0]] + [name_of(word) for word in words[1:1 + many]]
     behind = 1 + many
     for _ in range(lengths):
         part, behind = length_from(words, behind, DEEPEST)

@@ -109,6 +109,13 @@ class Table(unittest.TestCase):
         self.refused("load r", "history")
         self.ask("text x")
         self.refused("load r", "text 32")
+        # A point that is no name cannot stand in a draft; one that is no point of the sketch makes no history.
+        for put, reason in (("points a b c d 1", "text 3"), ("ask level a 1", "text 4"), ("ask level a z", "history")):
+            self.ask("empty")
+            at = 3 if put.startswith("points") else 4
+            for row in rows[:at] + [put] + rows[at + 1:]:
+                self.ask("text " + row)
+            self.refused("load r", reason)
 
     def test_show(self):
         self.assertEqual(self.ask("show p"), texts.write_history(PLATE).split("\n")[:-1])

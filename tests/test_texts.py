@@ -167,9 +167,11 @@ class MalformedHistories(unittest.TestCase):
                 ("base", ("base", "base 3 num 0", "base -1 num 0", "base 00 num 0", "base x num 0", "base 0", "base 0 of W", "base 0 num",
                           "base num 0", "base 0 num 1 num 2", "base 0 " + "plus num 1 " * 8 + "num 1", "on f1", "on f1:low & b:c & a:b",
                           "on f1:low & a:b & a:b", "on f1:low a:b", "on")),
-                ("points", ("points a B", "points a b&c", "points a " + "b" * 61, "points a:b")),
+                ("points", ("points a B", "points a b&c", "points a " + "b" * 61, "points a:b", "points 1", "points 1 b", "points a b.c",
+                            "points a-b", "points a b_", "points -", "points abcdefghijklm", "points b a 1", "points a a 2x")),
                 ("ask", ("ask", "ask lvl a b", "ask level a", "ask level a b c", "ask fix a num 0", "level a b", "ask part a b c x",
-                         "ask span a c 25")),
+                         "ask span a c 25", "ask level a 1", "ask level 1 a", "ask level a.b b", "ask level abcdefghijklm b",
+                         "ask fix a-b num 0 num 0", "ask part c a _ 1", "ask even a b 12 a", "ask wide a b c d. 2", "ask level z 9z")),
                 ("pick", ("pick 01", "pick -1", "pick +1", "pick x", "pick", "pick 1 2", "pick 1/2", "pick 00", "pick " + "1" * 31)),
                 ("ring", ("ring A", "ring a b:c", "ring " + "a" * 61, "ring a,b")),
                 ("low", ("low", "low w", "low num", "low of w of w", "low num 1/1")),
@@ -195,8 +197,8 @@ class NotRightHistories(unittest.TestCase):
         changes = [(0, ["number w 4", "number w 4"]), (0, ["number w 4", "number h 1"]),
                    (0, ["number " + name + " 1" for name in sorted("n" + str(k) for k in range(41))]),
                    (16, ["feature base cut"]), (3, ["points"]), (3, ["points b a c d"]), (3, ["points a a b c d"]),
-                   (3, ["points a b c"]), (3, ["points a b c d 1"]), (3, ["points " + " ".join(f"a{k:02d}" for k in range(25))]),
-                   (5, ["ask level a a"]), (5, ["ask level a z"]), (5, ["ask part a a b 1"]), (5, ["ask level a 1"]),
+                   (3, ["points a b c"]), (3, ["points a b d c"]), (3, ["points " + " ".join(f"a{k:02d}" for k in range(25))]),
+                   (5, ["ask level a a"]), (5, ["ask level a z"]), (5, ["ask part a a b 1"]), (5, ["ask level a abcdefghijkl"]),
                    (5, ["ask level a b"] * 41), (12, []), (12, ["ring a b c d"] * 7), (12, ["ring" + " a" * 25])]
         for k, put in changes:
             changed = rows[:k] + put + rows[k + 1:]
@@ -207,6 +209,13 @@ class NotRightHistories(unittest.TestCase):
             self.assertEqual(caught.exception.at, len(changed))
         self.assertEqual(len(read_history(text_of(rows[:12] + ["ring a"] * 6 + rows[13:]))[1][0][5]), 6)
         self.assertEqual(len(read_history(text_of(rows[:12] + ["ring" + " a" * 24] + rows[13:]))[1][0][5][0]), 24)
+
+    def test_corners_may_be_no_names(self):
+        rows = self.rows()
+        corners = ("1", "b.c", "a-b_", "-", ".", "9" * 60, "abcdefghijklm")
+        found = read_history(text_of(rows[:12] + ["ring " + " ".join(corners)] + rows[13:]))
+        self.assertEqual(found[1][0][5], (corners,))
+        self.assertEqual(read_history(write_history(found)), found)
 
     def test_too_many_features(self):
         part = self.rows()[1:16]
@@ -263,7 +272,8 @@ class Assemblies(unittest.TestCase):
         at = {row.split(" ")[0]: k for k, row in enumerate(rows)}
         for word, wrongs in (
                 ("part", ("part B 0", "part b", "part b 0 0", "part b 03", "part b -1", "part b x", "part  b 0", "part b 0 ",
-                          "part 0 b", "part b " + "1" * 31)),
+                          "part 0 b", "part b " + "1" * 31, "part b 4", "part b 5", "part b 10", "part b 30", "part b " + "9" * 30,
+                          "part b 1/1", "part b 00")),
                 ("done", ("done 1", "done ", "Done", " done")),
                 ("hold", ("hold", "hold a 0 0", "hold a 0 0 0 0", "hold A 0 0 0", "hold a 0 0 x", "hold a 0 0 2/4", "hold  a 0 0 0",
                           "hold a 0 0 ", "hold a num 0 num 0 num 0")),
@@ -279,8 +289,8 @@ class Assemblies(unittest.TestCase):
     def test_no_assemblies(self):
         good = [("a", BOX, 0), ("b", BOX, 1)]
         hold = MATES[0]
-        for parts, mates in (([("b", BOX, 0), ("a", BOX, 0)], ()), ([("a", BOX, 0), ("a", BOX, 0)], ()), ([("a", BOX, 4)], ()),
-                             ([("a", BOX, 10 ** 29)], ()), ([("a", NONE, 0)], ()), ([], ()), ([], (hold,)),
+        for parts, mates in (([("b", BOX, 0), ("a", BOX, 0)], ()), ([("a", BOX, 0), ("a", BOX, 0)], ()), ([("a", NONE, 0)], ()),
+                             ([], ()), ([], (hold,)),
                              (good, (("mate", "a", (("f", "low"), ()), "a", (("f", "high"), ()), ratio(0)),)),
                              ([(f"p{k:02d}", BOX, 0) for k in range(13)], ()), (good, (hold,) * 41)):
             self.assertRaises(NotRight, read_assembly, write_assembly(parts, mates))
@@ -296,12 +306,23 @@ class Assemblies(unittest.TestCase):
         other = ((), (feature("other", low=TWO, high=ZERO),))
         # No history, in any part, ahead of a stop; a stop ahead of no assembly; the stops in the order of the parts.
         self.assertRaises(NotRight, read_assembly, write_assembly([("a", STOPPED, 0), ("b", wrong, 0)], ()))
-        for parts, name in (([("a", BOX, 9), ("b", STOPPED, 0)], "late"), ([("b", STOPPED, 0), ("a", other, 0)], "late"),
+        for parts, name in (([("b", BOX, 3), ("a", STOPPED, 0)], "late"), ([("b", STOPPED, 0), ("a", other, 0)], "late"),
                             ([("b", other, 0), ("a", STOPPED, 0)], "other"), ([("a", NONE, 0), ("b", other, 0)], "other")):
             with self.assertRaises(Stops) as caught:
                 read_assembly(write_assembly(parts, ()))
             self.assertEqual((caught.exception.name, caught.exception.reason), (name, "low"))
         self.check(write_assembly([("a", STOPPED, 0), ("b", wrong, 0)], ()) + "end\n", 21)
+        # Turns above 3 are wrong words, ahead of all of these.
+        self.check(write_assembly([("a", STOPPED, 4), ("b", wrong, 0)], ()), 0)
+        self.check(write_assembly([("a", STOPPED, 0), ("b", wrong, 4)], ()), 17)
+
+    def test_turns(self):
+        for turns in range(4):
+            self.assertEqual(read_assembly(write_assembly([("a", BOX, turns)], ())), ((("a", built(BOX), turns),), ()))
+        for turns in (4, 5, 10, 12, 10 ** 29):
+            self.check(write_assembly([("a", BOX, turns)], ()), 0)
+            self.check(write_assembly([("a", BOX, 3), ("b", BOX, turns), ("c", BOX, 0)], ()), 17)
+            self.assertFalse(is_assembly(((("a", built(BOX), turns),), ())))
 
 
 if __name__ == "__main__":

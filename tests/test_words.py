@@ -136,9 +136,19 @@ class Constraints(unittest.TestCase):
     def test_tuples_that_are_no_constraints_of_a_sketch(self):
         for text, constraint in (("level a a", ("level", "a", "a")), ("part a a a 1", ("part", "a", "a", "a", ratio(1))),
                                  ("level zz q", ("level", "zz", "q")), ("even a a b b", ("even", "a", "a", "b", "b")),
-                                 ("span 1 2 num -4", ("span", "1", "2", num(-4))), ("level a.b 1-2", ("level", "a.b", "1-2"))):
+                                 ("span n1 n1 num -4", ("span", "n1", "n1", num(-4))), ("level of num", ("level", "of", "num")),
+                                 ("turn abcdefghijkl a b2 a", ("turn", "abcdefghijkl", "a", "b2", "a"))):
             self.assertEqual(read_constraint(text.split(" ")), constraint)
             self.assertEqual(write_constraint(constraint), text)
+
+    def test_each_point_is_a_name(self):
+        for constraint, text in SAMPLES:
+            words = text.split(" ")
+            many = FORMS[constraint[0]][0]
+            for at in range(1, 1 + many):
+                self.assertEqual(read_constraint(words[:at] + ["abcdefghijk9"] + words[at + 1:])[at], "abcdefghijk9")
+                for wrong in ("1", "1a", "A", "aB", "a.b", "a-b", "a_b", "a:b", "-", ".", "", "abcdefghijklm", "\u00e4", "a\n", "9" * 60):
+                    self.assertRaises(NotRight, read_constraint, words[:at] + [wrong] + words[at + 1:])
 
     def test_wrong_words(self):
         for text in ("", "ask level a b", "Level a b", "lvl a b", "a b", "level", "level a", "level a b c", "level a b ", "level a ",
